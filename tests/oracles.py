@@ -1,0 +1,207 @@
+"""The document's words done step by step, slowly, to compare with."""
+
+from itertools import product
+
+from tests.samples import parts_by_hand, spot_turned, turned_by_hand
+
+COPIES = 8
+
+
+def lots_of_numbers(numbers):
+    """All lots of some numbers, () too."""
+    numbers = sorted(set(numbers))
+    return [tuple(a for at, a in enumerate(numbers) if mask >> at & 1) for mask in range(1 << len(numbers))]
+
+
+def rows_broken(table):
+    """Which of the six rows of an algebra a table does not keep."""
+    _, many, then, on, back, mix = table
+    all_numbers = range(many)
+
+    def mixed(lot):
+        return mix[sum(1 << a for a in set(lot))]
+
+    lots = [lot for lot in lots_of_numbers(all_numbers) if lot]
+    broken = set()
+    if any(then[0][a] != a or then[a][0] != a for a in all_numbers) or on[0] or back[0] or mixed((0,)):
+        broken.add(0)
+    if any(mixed(lot + (0,)) != mixed(lot) for lot in lots):
+        broken.add(0)
+    if any(then[then[a][b]][c] != then[a][then[b][c]] for a, b, c in product(all_numbers, repeat=3)):
+        broken.add(1)
+    for a, b in product(all_numbers, repeat=2):
+        if on[then[a][b]] != then[a][on[then[b][a]]] or back[then[a][b]] != then[back[then[b][a]]][b]:
+            broken.add(2)
+    for a in all_numbers:
+        power = a
+        for _ in range(2 * many):
+            power = then[power][a]
+            if on[power] != on[a] or back[power] != back[a]:
+                broken.add(3)
+    for lot in lots:
+        m = mixed(lot)
+        for c in lot:
+            told = (then[m][m], then[then[m][c]][m], on[m], on[then[m][c]], back[m], back[then[c][m]])
+            if told != (m,) * 6:
+                broken.add(4)
+        mixes = {m} | {then[c][m] for c in lot} | {then[m][d] for d in lot}
+        mixes = mixes | {then[then[c][m]][d] for c, d in product(lot, repeat=2)}
+        for other in lots_of_numbers(set(lot) | mixes):
+            if set(other) & mixes and mixed(other) != m:
+                broken.add(5)
+    return broken
+
+
+def row_holds(formula, row, at):
+    """Whether a places formula holds at a place of a row of letters, by the words of the document."""
+    head = formula[0]
+    if head == "mark":
+        return formula[1] in row[at]
+    if head == "not":
+        return not row_holds(formula[1], row, at)
+    if head == "both":
+        return row_holds(formula[1], row, at) and row_holds(formula[2], row, at)
+    if head == "either":
+        return row_holds(formula[1], row, at) or row_holds(formula[2], row, at)
+    for other in range(at + 1, len(row)) if head == "until" else range(at):
+        between = range(min(at, other) + 1, max(at, other))
+        if row_holds(formula[2], row, other) and all(row_holds(formula[1], row, third) for third in between):
+            return True
+    return False
+
+
+def round_holds(formula, row, places):
+    """Whether a rounds formula holds of a row of letters, the places told by names."""
+    head = formula[0]
+    if head == "bears":
+        return formula[2] in row[places[formula[1]]]
+    if head == "before":
+        return places[formula[1]] < places[formula[2]]
+    if head == "same":
+        return places[formula[1]] == places[formula[2]]
+    if head == "not":
+        return not round_holds(formula[1], row, places)
+    if head == "both":
+        return round_holds(formula[1], row, places) and round_holds(formula[2], row, places)
+    if head == "either":
+        return round_holds(formula[1], row, places) or round_holds(formula[2], row, places)
+    asked = any if head == "some" else all
+    return asked(round_holds(formula[2], row, {**places, formula[1]: at}) for at in range(len(row)))
+
+
+class Places:
+    """The places of a weave, copies from number COPIES on being told by this one number."""
+
+    def __init__(self, weave):
+        self.weave = weave
+        self.known = {}
+        self.other = None
+
+    def inside(self, weave, path):
+        """All spots of a weave, behind a path."""
+        if weave[0] == "letter":
+            return [path]
+        found = []
+        if weave[0] in ("on", "back"):
+            for number in range(COPIES + 1):
+                found.extend(self.inside(weave[1], path + (number,)))
+            return found
+        for number, part in enumerate(parts_by_hand(weave)):
+            found.extend(self.inside(part, path + (number,)))
+        return found
+
+    def stretches(self, weave, path, spot):
+        """Rows of later spots: each a pair (again, spots): places one behind the other, or in any way mixed."""
+        if spot == ():
+            return []
+        number, rest = spot[0], spot[1:]
+        if weave[0] in ("on", "back"):
+            part = weave[1]
+        else:
+            part = parts_by_hand(weave)[number]
+        rows = self.stretches(part, path + (number,), rest)
+        if weave[0] == "then":
+            return rows + ([("then", weave[2], path + (1,))] if number == 0 else [])
+        if weave[0] == "on":
+            copies = [("then", part, path + (k,)) for k in range(number + 1, COPIES)]
+            return rows + copies + [("tail", part, path + (COPIES,))]
+        if weave[0] == "back":
+            head = [("then", part, path + (k,)) for k in range(number - 1, -1, -1)]
+            return rows + head
+        return rows + [("mix", weave, path)]
+
+    def reached(self, way, goal, rows):
+        """A pair: whether a goal is reached through way in rows of pieces, and whether way holds in all of them."""
+        clear = True
+        for kind, weave, path in rows:
+            found, through = self.through(kind, weave, path, way, goal)
+            if clear and found:
+                return True, False
+            clear = clear and through
+        return False, clear
+
+    def through(self, kind, weave, path, way, goal):
+        """The pair of reached, of one piece, seen from its beginning."""
+        if kind == "mix" or weave[0] == "mix":
+            spots = self.inside(weave, path)
+            clear = all(way(spot) for spot in spots)
+            return clear and any(goal(spot) for spot in spots), clear
+        if kind == "tail":
+            # The same copy comes again and again: twice is as good as ever.
+            return self.reached(way, goal, [("then", weave, path), ("then", weave, path)])
+        if weave[0] == "none":
+            return False, True
+        if weave[0] == "letter":
+            return goal(path), way(path)
+        if weave[0] == "then":
+            return self.reached(way, goal, [("then", part, path + (at,)) for at, part in enumerate(weave[1:])])
+        copies = [("then", weave[1], path + (k,)) for k in range(COPIES)]
+        tail = ("tail", weave[1], path + (COPIES,))
+        if weave[0] == "on":
+            return self.reached(way, goal, copies + [tail])
+        return self.reached_behind(way, goal, [tail] + copies[::-1], self.inside(weave[1], path + (COPIES,)))
+
+    def reached_behind(self, way, goal, rows, first):
+        """As reached, of rows in front of which there is no first copy: all of the first kind lie ahead."""
+        if not all(way(spot) for spot in first):
+            return False, False
+        if any(goal(spot) for spot in first):
+            return True, all(self.through(*row, way, goal)[1] for row in rows)
+        return self.reached(way, goal, rows)
+
+    def holds(self, formula, spot):
+        """Whether a places formula holds at the places of a spot."""
+        key = (formula, spot)
+        if key not in self.known:
+            self.known[key] = self.told(formula, spot)
+        return self.known[key]
+
+    def told(self, formula, spot):
+        head = formula[0]
+        if head == "mark":
+            weave = self.weave
+            for number in spot:
+                weave = weave[1] if weave[0] in ("on", "back") else parts_by_hand(weave)[number]
+            return formula[1] in weave[1]
+        if head == "not":
+            return not self.holds(formula[1], spot)
+        if head == "both":
+            return self.holds(formula[1], spot) and self.holds(formula[2], spot)
+        if head == "either":
+            return self.holds(formula[1], spot) or self.holds(formula[2], spot)
+        if head == "since":
+            if self.other is None:
+                self.other = Places(turned_by_hand(self.weave))
+            return self.other.holds(exchanged(formula), spot_turned(self.weave, spot))
+        rows = self.stretches(self.weave, (), spot)
+        return self.reached(
+            lambda where: self.holds(formula[1], where), lambda where: self.holds(formula[2], where), rows)[0]
+
+
+def exchanged(formula):
+    """A places formula with until and since exchanged."""
+    head = formula[0]
+    if head == "mark":
+        return formula
+    head = {"until": "since", "since": "until"}.get(head, head)
+    return (head,) + tuple(exchanged(part) for part in formula[1:])

@@ -1,0 +1,193 @@
+"""The interface, the order of the modules, and the bounds on the code."""
+
+import ast
+import builtins
+import importlib
+import inspect
+from pathlib import Path
+from unittest import TestCase
+
+PACKAGE = Path(__file__).resolve().parent.parent / "alongall"
+ORDER = (
+    "errors words weaves algebras spots placed asrounds formulas readers least building merging chains changing combining "
+    "values mixes lots hiding texts compiling making steps markings weighing deciding kinds placing verdicts weavetexts desk "
+    "families filling flaws fullwords lengths levels marking papers views parters parting placetables roundforms sayings "
+    "shorthand ties ways wrapping"
+).split()
+# What has landed, with the names of the parameters.
+INTERFACE = {
+    "words": {"is_name": "thing"},
+    "weaves": {
+        "letters": "scope", "is_weave": "scope thing", "size": "scope weave", "letters_in": "scope weave",
+        "length": "scope weave", "spelled": "scope weave", "written": "scope row",
+    },
+    "algebras": {"is_table": "thing", "is_algebra": "thing", "value": "table scope starts weave"},
+    "spots": {"is_spot": "scope weave thing", "cut": "scope weave spot"},
+    "placed": {
+        "is_placed": "thing", "names_of": "formula", "mirrored": "formula", "there": "scope formula weave spot",
+    },
+    "asrounds": {"as_rounds": "formula name"},
+    "formulas": {
+        "is_formula": "thing", "is_long": "thing", "is_sentence": "thing", "free_names": "formula", "nodes_in": "formula",
+        "is_short": "thing",
+    },
+}
+BARRED_NAMES = (
+    "register mro elements open input law version_info with_traceback add_note attrgetter breakpoint builtins compile copyright "
+    "credits delattr dir eval exec exit gc getattr globals hasattr help id importlib license locals methodcaller os quit setattr "
+    "vars sys"
+).split()
+BUILTINS = (
+    "len range enumerate zip min max sum abs sorted reversed int str bool bytes list tuple dict set isinstance ord repr any all "
+    "divmod ValueError"
+).split()
+METHODS = (
+    "append clear copy count endswith extend find get index insert isalnum isalpha isdigit islower isspace isupper items join "
+    "keys ljust lower lstrip partition pop remove replace reverse rfind rjust rpartition rsplit rstrip setdefault split "
+    "splitlines startswith strip update upper values zfill bit_length add discard"
+).split()
+
+
+def package_files():
+    return sorted(PACKAGE.glob("*.py"))
+
+
+def own_methods():
+    found = set()
+    for path in package_files():
+        for node in ast.walk(ast.parse(path.read_text())):
+            if isinstance(node, ast.ClassDef):
+                found.update(part.name for part in node.body if isinstance(part, ast.FunctionDef))
+    return found
+
+
+class Layout(TestCase):
+    def test_only_files_of_python(self):
+        for path in PACKAGE.iterdir():
+            self.assertTrue(path.suffix == ".py" or path.name == "__pycache__", path)
+        self.assertEqual((PACKAGE / "__init__.py").read_text(), "")
+
+    def test_interface(self):
+        for module, functions in INTERFACE.items():
+            found = importlib.import_module("alongall." + module)
+            for name, parameters in functions.items():
+                function = vars(found)[name]
+                self.assertEqual(function.__module__, "alongall." + module)
+                self.assertEqual(list(inspect.signature(function).parameters), parameters.split(), name)
+
+    def test_modules_import_only_from_those_ahead(self):
+        imports = {}
+        for path in package_files():
+            imports[path.stem] = [
+                node.module.split(".")[1] for node in ast.walk(ast.parse(path.read_text())) if isinstance(node, ast.ImportFrom)]
+        for module in imports:
+            seen, rest = set(), [module]
+            while rest:
+                for other in imports[rest.pop()]:
+                    if other not in seen:
+                        seen.add(other)
+                        rest.append(other)
+            self.assertNotIn(module, seen)
+            if module in ORDER:
+                for other in seen:
+                    if other in ORDER:
+                        self.assertLess(ORDER.index(other), ORDER.index(module), (module, other))
+
+    def test_sizes(self):
+        for path in package_files():
+            text = path.read_text()
+            rows = text.split("\n")
+            self.assertLessEqual(len(rows), 400, path)
+            for row in rows:
+                self.assertLessEqual(len(row), 120, (path, row))
+                self.assertTrue(all(" " <= sign <= "~" for sign in row), (path, row))
+                self.assertEqual(row, row.rstrip(), path)
+            for node in ast.walk(ast.parse(text)):
+                if isinstance(node, ast.FunctionDef):
+                    self.assertLessEqual(node.end_lineno - node.lineno + 1, 40, (path, node.name))
+
+    def test_every_function_and_file_has_a_docstring(self):
+        for path in package_files():
+            tree = ast.parse(path.read_text())
+            if path.stem != "__init__":
+                self.assertTrue(ast.get_docstring(tree), path)
+            for node in ast.walk(tree):
+                if isinstance(node, (ast.FunctionDef, ast.ClassDef)) and node.name not in ("__init__", "told"):
+                    self.assertTrue(ast.get_docstring(node), (path, node.name))
+
+    def test_statements(self):
+        barred = (
+            ast.Global, ast.Nonlocal, ast.AsyncFunctionDef, ast.Await, ast.Yield, ast.YieldFrom, ast.AnnAssign, ast.Lambda,
+            ast.NamedExpr, ast.Set, ast.Try, ast.With, ast.Match, ast.Div, ast.Import, ast.Delete, ast.Pow, ast.MatMult,
+        )
+        for path in package_files():
+            tree = ast.parse(path.read_text())
+            for node in ast.walk(tree):
+                self.assertNotIsInstance(node, barred, (path, getattr(node, "lineno", 0)))
+                if isinstance(node, ast.FunctionDef):
+                    self.assertEqual(node.decorator_list, [])
+                if isinstance(node, ast.Constant):
+                    self.assertNotIsInstance(node.value, (float, complex, bytes))
+                    if isinstance(node.value, str):
+                        self.assertNotIn("__", node.value)
+                if isinstance(node, ast.Compare):
+                    for sign, side in zip(node.ops, node.comparators):
+                        if isinstance(sign, (ast.Is, ast.IsNot)):
+                            self.assertIn(getattr(side, "value", 0), (None, True, False))
+                if isinstance(node, ast.ImportFrom):
+                    self.assertTrue(node.module.startswith("alongall."))
+                    self.assertTrue(all(name.asname is None and name.name != "*" for name in node.names))
+            for node in tree.body:
+                self.assertIsInstance(node, (ast.Expr, ast.ImportFrom, ast.FunctionDef, ast.ClassDef, ast.Assign), path)
+
+    def test_names(self):
+        known = set(dir(builtins))
+        methods = own_methods()
+        for path in package_files():
+            tree = ast.parse(path.read_text())
+            imported = {name.name for node in tree.body if isinstance(node, ast.ImportFrom) for name in node.names}
+            functions = {node.name for node in tree.body if isinstance(node, ast.FunctionDef)}
+            for node in ast.walk(tree):
+                if isinstance(node, ast.Name) and isinstance(node.ctx, ast.Load) and node.id in known:
+                    self.assertIn(node.id, BUILTINS, (path, node.lineno))
+                stored = []
+                if isinstance(node, ast.Name) and isinstance(node.ctx, ast.Store):
+                    stored = [node.id]
+                if isinstance(node, ast.arg):
+                    stored = [node.arg]
+                if isinstance(node, (ast.FunctionDef, ast.ClassDef)):
+                    self.assertNotIn(node.name, BARRED_NAMES)
+                    self.assertTrue(node.name not in known or node.name == "__init__", (path, node.name))
+                for name in stored:
+                    self.assertNotIn(name, BARRED_NAMES, path)
+                    self.assertNotIn(name, known, (path, name))
+                    self.assertNotIn(name, imported, (path, name))
+                    self.assertNotIn(name, functions, (path, name))
+                if isinstance(node, ast.Call) and isinstance(node.func, ast.Attribute):
+                    self.assertIn(node.func.attr, METHODS + sorted(methods), (path, node.lineno))
+
+    def test_words_that_do_not_occur(self):
+        words = "type typing enum Enum Flag Generic Protocol ABC namedtuple NamedTuple TypedDict dataclass overload _wall".split()
+        for path in package_files():
+            for node in ast.walk(ast.parse(path.read_text())):
+                if isinstance(node, ast.Name):
+                    self.assertNotIn(node.id, words)
+                if isinstance(node, ast.Constant) and isinstance(node.value, str) and "\n" not in node.value:
+                    self.assertNotIn("%", node.value)
+
+    def test_loops_do_not_change_what_they_go_over(self):
+        changing = ("append", "extend", "pop", "insert", "remove", "clear", "update", "setdefault", "reverse")
+        for path in package_files():
+            for loop in ast.walk(ast.parse(path.read_text())):
+                if not isinstance(loop, ast.For):
+                    continue
+                names = {node.id for node in ast.walk(loop.iter) if isinstance(node, ast.Name)}
+                for node in ast.walk(ast.Module(body=loop.body, type_ignores=[])):
+                    if isinstance(node, ast.Call) and isinstance(node.func, ast.Attribute) and node.func.attr in changing:
+                        owner = node.func.value
+                        if isinstance(owner, ast.Name):
+                            self.assertNotIn(owner.id, names, (path, node.lineno))
+                    if isinstance(node, ast.Assign):
+                        for target in node.targets:
+                            if isinstance(target, ast.Subscript) and isinstance(target.value, ast.Name):
+                                self.assertNotIn(target.value.id, names, (path, node.lineno))
