@@ -14,22 +14,23 @@ SHORTS = {
 JOINTS = {"not": 2, "both": 3, "either": 3, "some": 3, "all": 3}
 
 
-def is_named(shapes, thing):
-    """Whether any value is one of the heads told by shapes and as many names behind it."""
-    head = head_of(thing)
-    if head not in shapes or len(thing) != shapes[head]:
-        return False
-    return all(is_name(name) for name in thing[1:])
+def is_named(thing, long):
+    """Whether a tuple is just so long, with names behind its head."""
+    return len(thing) == long and all(is_name(name) for name in thing[1:])
 
 
 def is_short(thing):
     """Whether any value is a short."""
-    return is_named(SHORTS, thing)
+    head = head_of(thing)
+    return head in SHORTS and is_named(thing, SHORTS[head])
 
 
 def is_atom(thing, shorts):
     """Whether any value is an atom, or, if shorts is True, a short."""
-    return is_named(ATOMS, thing) or (shorts and is_short(thing))
+    head = head_of(thing)
+    if head in ATOMS:
+        return is_named(thing, ATOMS[head])
+    return shorts and is_short(thing)
 
 
 def is_bound(formula):

@@ -205,3 +205,144 @@ def exchanged(formula):
         return formula
     head = {"until": "since", "since": "until"}.get(head, head)
     return (head,) + tuple(exchanged(part) for part in formula[1:])
+
+
+def mixed_in(table, lot):
+    """The mix of a lot."""
+    return table[5][sum(1 << a for a in set(lot))]
+
+
+def walk_by_hand(tables, given):
+    """What a walk meets, things being tuples with an element of each of the tables."""
+    met = []
+
+    def meet(thing):
+        if thing not in met:
+            met.append(thing)
+
+    meet((0,) * len(tables))
+    for thing in given:
+        meet(tuple(thing))
+    before = []
+    while len(before) < len(met):
+        before = list(met)
+        for one in before:
+            for other in before:
+                meet(tuple(table[2][a][b] for table, a, b in zip(tables, one, other)))
+        for one in before:
+            meet(tuple(table[3][a] for table, a in zip(tables, one)))
+            meet(tuple(table[4][a] for table, a in zip(tables, one)))
+        for number in range(1, 2 ** len(before)):
+            lot = [thing for at, thing in enumerate(before) if number // 2 ** at % 2 == 1]
+            meet(tuple(mixed_in(table, [thing[k] for thing in lot]) for k, table in enumerate(tables)))
+    return met
+
+
+def table_by_hand(tables, line):
+    """The table of the things in line, told by their places."""
+    def number(thing):
+        return line.index(tuple(thing))
+
+    return (
+        "algebra", len(line),
+        tuple(tuple(number(t[2][a][b] for t, a, b in zip(tables, x, y)) for y in line) for x in line),
+        tuple(number(t[3][a] for t, a in zip(tables, x)) for x in line),
+        tuple(number(t[4][a] for t, a in zip(tables, x)) for x in line),
+        tuple(
+            number(mixed_in(t, [x[k] for at, x in enumerate(line) if mask >> at & 1]) for k, t in enumerate(tables))
+            for mask in range(1 << len(line))),
+    )
+
+
+def splits_by_hand(numbers):
+    """All ways to put numbers into lots."""
+    if not numbers:
+        return [[]]
+    found = []
+    for rest in splits_by_hand(numbers[1:]):
+        found.append([(numbers[0],)] + rest)
+        for at, lot in enumerate(rest):
+            found.append(rest[:at] + [(numbers[0],) + lot] + rest[at + 1:])
+    return found
+
+
+def is_merging_by_hand(algebra, lots):
+    """Whether a tuple of lots is a merging."""
+    _, many, then, on, back, _ = algebra
+    if list(lots) != sorted(lots) or any(list(lot) != sorted(lot) for lot in lots):
+        return False
+    home = {element: at for at, lot in enumerate(lots) for element in lot}
+    for lot in lots:
+        for a, b in product(lot, repeat=2):
+            pairs = [(on[a], on[b]), (back[a], back[b])]
+            pairs += [(then[c][a], then[c][b]) for c in range(many)]
+            pairs += [(then[a][c], then[b][c]) for c in range(many)]
+            for other in lots_of_numbers(range(many)):
+                pairs.append((mixed_in(algebra, other + (a,)), mixed_in(algebra, other + (b,))))
+            if any(home[one] != home[two] for one, two in pairs):
+                return False
+    return True
+
+
+def mergings_by_hand(algebra):
+    """All mergings, in order."""
+    found = []
+    for lots in splits_by_hand(list(range(algebra[1]))):
+        lots = tuple(sorted(tuple(sorted(lot)) for lot in lots))
+        if is_merging_by_hand(algebra, lots):
+            found.append(lots)
+    return tuple(sorted(found))
+
+
+def turns_of(algebra):
+    """All turns."""
+    numbers = range(algebra[1])
+    found = [("left", c) for c in numbers] + [("right", c) for c in numbers] + [("on",), ("back",)]
+    return found + [("mix", lot) for lot in lots_of_numbers(numbers)]
+
+
+def turned_to(algebra, turn, element):
+    """What a turn makes of an element."""
+    _, _, then, on, back, _ = algebra
+    if turn[0] == "left":
+        return then[turn[1]][element]
+    if turn[0] == "right":
+        return then[element][turn[1]]
+    if turn[0] == "mix":
+        return mixed_in(algebra, turn[1] + (element,))
+    return on[element] if turn[0] == "on" else back[element]
+
+
+def fewest_turns(algebra, lot, first, last):
+    """How many turns part two elements at least, None if none do."""
+    pairs, seen, many = [(first, last)], {(first, last)}, 0
+    while pairs:
+        if any((a in lot) != (b in lot) for a, b in pairs):
+            return many
+        coming = []
+        for a, b in pairs:
+            for turn in turns_of(algebra):
+                pair = (turned_to(algebra, turn, a), turned_to(algebra, turn, b))
+                if pair not in seen:
+                    seen.add(pair)
+                    coming.append(pair)
+        pairs, many = coming, many + 1
+    return None
+
+
+def same_words(one, other):
+    """Whether two readers of one scope take the same words: by all pairs of values that are met."""
+    met = walk_by_hand((one[2], other[2]), list(zip(one[3], other[3])))
+    return all((a in one[4]) == (b in other[4]) for a, b in met)
+
+
+def moved(reader, order):
+    """The reader with its elements in other seats: a is now order[a]; order[0] is 0."""
+    _, scope, (_, many, then, on, back, mix), starts, takes = reader
+    home = [order.index(seat) for seat in range(many)]
+    algebra = (
+        "algebra", many, tuple(tuple(order[then[home[a]][home[b]]] for b in range(many)) for a in range(many)),
+        tuple(order[on[home[a]]] for a in range(many)), tuple(order[back[home[a]]] for a in range(many)),
+        tuple(order[mix[sum(1 << home[a] for a in range(many) if mask >> a & 1)]] for mask in range(1 << many)),
+    )
+    return ("reader", scope, algebra, tuple(order[a] for a in starts), tuple(sorted(order[a] for a in takes)))

@@ -31,6 +31,23 @@ INTERFACE = {
         "is_formula": "thing", "is_long": "thing", "is_sentence": "thing", "free_names": "formula", "nodes_in": "formula",
         "is_short": "thing",
     },
+    "readers": {"is_reader": "thing", "takes": "reader weave"},
+    "least": {"least": "reader"},
+    "building": {"made": "algebra given", "paired": "one other given", "flipped": "algebra"},
+    "merging": {
+        "is_merging": "algebra thing", "merged": "algebra merging", "mergings": "algebra", "least_merging": "algebra pairs",
+        "coarsest": "algebra lot",
+    },
+    "chains": {
+        "around": "algebra surroundings element", "chain": "algebra pairs first last",
+        "is_chain": "algebra pairs first last thing", "parting": "algebra lot first last",
+    },
+    "changing": {"widened": "reader scope", "renamed": "reader names", "backward": "reader"},
+    "combining": {"contrary": "reader", "meeting": "one other", "joining": "one other"},
+    "values": {
+        "is_lot": "algebra thing", "then_of": "algebra one other", "plus": "algebra lot", "on_of": "algebra lot",
+        "back_of": "algebra lot", "on_paper": "algebra lot element", "is_on_paper": "algebra lot element thing",
+    },
 }
 BARRED_NAMES = (
     "register mro elements open input law version_info with_traceback add_note attrgetter breakpoint builtins compile copyright "
@@ -191,3 +208,69 @@ class Layout(TestCase):
                         for target in node.targets:
                             if isinstance(target, ast.Subscript) and isinstance(target.value, ast.Name):
                                 self.assertNotIn(target.value.id, names, (path, node.lineno))
+
+    def test_imports_name_the_file_that_defines(self):
+        defined = {}
+        for path in package_files():
+            tree = ast.parse(path.read_text())
+            names = [node.name for node in tree.body if isinstance(node, (ast.FunctionDef, ast.ClassDef))]
+            names += [target.id for node in tree.body if isinstance(node, ast.Assign) for target in node.targets]
+            self.assertEqual(len(names), len(set(names)), path)
+            defined[path.stem] = names
+        for path in package_files():
+            for node in ast.walk(ast.parse(path.read_text())):
+                if isinstance(node, ast.ImportFrom):
+                    for name in node.names:
+                        self.assertIn(name.name, defined[node.module.split(".")[1]], path)
+
+    def test_imports_are_used(self):
+        for path in package_files():
+            tree = ast.parse(path.read_text())
+            used = {node.id for node in ast.walk(tree) if isinstance(node, ast.Name)}
+            for node in tree.body:
+                if isinstance(node, ast.ImportFrom):
+                    for name in node.names:
+                        self.assertIn(name.name, used, path)
+
+    def test_lists_and_dicts_of_files_are_only_read(self):
+        for path in package_files():
+            tree = ast.parse(path.read_text())
+            kept = {
+                node.targets[0].id for node in tree.body if isinstance(node, ast.Assign) and isinstance(node.value, (ast.Dict, ast.List))}
+            fine = set()
+            for node in ast.walk(tree):
+                if isinstance(node, ast.Subscript):
+                    fine.add(id(node.value))
+                if isinstance(node, ast.Compare) and isinstance(node.ops[0], (ast.In, ast.NotIn)):
+                    fine.add(id(node.comparators[0]))
+            for node in ast.walk(tree):
+                if isinstance(node, ast.Name) and isinstance(node.ctx, ast.Load) and node.id in kept:
+                    self.assertIn(id(node), fine, (path, node.lineno))
+
+    def test_generator_expressions_stand_alone_in_builtins(self):
+        for path in package_files():
+            tree = ast.parse(path.read_text())
+            fine = set()
+            for node in ast.walk(tree):
+                if isinstance(node, ast.Call) and isinstance(node.func, ast.Name) and len(node.args) == 1:
+                    if node.func.id in ("list", "tuple", "sorted", "sum", "min", "max", "any", "all") and not node.keywords:
+                        fine.add(id(node.args[0]))
+            for node in ast.walk(tree):
+                if isinstance(node, ast.GeneratorExp):
+                    self.assertIn(id(node), fine, (path, node.lineno))
+                if isinstance(node, ast.SetComp):
+                    self.assertTrue(any(
+                        isinstance(call, ast.Call) and isinstance(call.func, ast.Name) and call.func.id in ("sorted", "len")
+                        and node in call.args for call in ast.walk(tree)), (path, node.lineno))
+                if isinstance(node, ast.Call) and isinstance(node.func, ast.Name) and node.func.id == "set":
+                    self.assertTrue(any(
+                        isinstance(call, ast.Call) and isinstance(call.func, ast.Name) and call.func.id in ("sorted", "len")
+                        and node in call.args for call in ast.walk(tree)), (path, node.lineno))
+
+    def test_ranges_and_views_are_not_kept(self):
+        for path in package_files():
+            for node in ast.walk(ast.parse(path.read_text())):
+                if isinstance(node, (ast.Assign, ast.Return)) and isinstance(node.value, ast.Call):
+                    call = node.value.func
+                    name = call.id if isinstance(call, ast.Name) else call.attr
+                    self.assertNotIn(name, ("range", "zip", "enumerate", "reversed", "items", "keys", "values", "map"), path)
