@@ -25,7 +25,7 @@ def made(algebra, given):
     """A pair: the algebra of what a walk from the given elements meets, and these in order."""
     need_algebra(algebra)
     if not is_given(given) or not all(is_below(element, algebra[1]) for element in given):
-        raise BadGiven("no tuple of at most 8 elements")
+        raise BadGiven("no tuple of at most 8 numbers of it")
     tables = (algebra,)
     line = walk(tables, [(element,) for element in given], MOST_MET)
     return table_over(tables, line, places_in(line)), tuple([thing[0] for thing in line])
@@ -36,7 +36,7 @@ def paired(one, other, given):
     need_algebra(one)
     need_algebra(other)
     if not is_given(given) or not all(is_pair_of(one, other, pair) for pair in given):
-        raise BadGiven("no tuple of at most 8 pairs of elements")
+        raise BadGiven("no tuple of at most 8 pairs of numbers")
     tables = (one, other)
     line = walk(tables, given, MOST_MET)
     return table_over(tables, line, places_in(line)), tuple(line)

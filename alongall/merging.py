@@ -99,7 +99,7 @@ def need_pairs(algebra, pairs):
     if not isinstance(pairs, tuple) or len(pairs) > MOST_PAIRS:
         raise BadPairs("no tuple of at most 20 pairs")
     if not all(is_element_pair(algebra, pair) for pair in pairs):
-        raise BadPairs("no pairs of elements")
+        raise BadPairs("no pairs of numbers of it")
 
 
 def kinds_joining(rows, many, pairs):
@@ -124,7 +124,7 @@ def least_merging(algebra, pairs):
 def need_lot_or_none(algebra, lot):
     """BadLot for any value that is no ascending tuple of elements; () is one."""
     if not is_lot_below(lot, algebra[1]):
-        raise BadLot("no ascending tuple of elements")
+        raise BadLot("no ascending tuple of numbers of it")
 
 
 def coarsest(algebra, lot):

@@ -27,6 +27,15 @@ def mix(*parts):
     return ("mix", tuple(sorted(set(parts))))
 
 
+def bush(many):
+    """A weave of many nodes, an odd number, that is not deep."""
+    if many == 1:
+        return A
+    half = (many - 1) // 2
+    half = half if half % 2 else half + 1
+    return ("then", bush(half), bush(many - 1 - half))
+
+
 def letters_by_hand(scope):
     """The letters of a scope of 0 to 3 names, written out."""
     if len(scope) == 0:

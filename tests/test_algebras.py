@@ -91,6 +91,25 @@ class Algebras(TestCase):
             self.assertIs(is_algebra(table), False, row)
             self.assertIs(is_algebra(flipped_by_hand(table)), False, row)
 
+    def test_mixes_of_what_holds_a_mix(self):
+        # Words by their ends: 1 one place, 2 no ends, 3 a first place alone, 4 a last one alone, 5 both; 6 takes all in.
+        ends = {1: (1, 1), 2: (0, 0), 3: (1, 0), 4: (0, 1), 5: (1, 1)}
+        kinds = {(0, 0): 2, (1, 0): 3, (0, 1): 4, (1, 1): 5}
+
+        def joined(a, b):
+            if 6 in (a, b):
+                return 6
+            return kinds[(ends[a][0], ends[b][1])] if a and b else a or b
+
+        def mixed(lot, odd):
+            some = {a for a in lot if a}
+            return 0 if not some else 6 if 6 in some or some == odd else 2
+        for odd in (set(), {2}, {3}, {4}, {5}):
+            table = table_by(
+                7, joined, lambda a: (0, 3, 2, 3, 2, 3, 6)[a], lambda a: (0, 4, 2, 2, 4, 4, 6)[a], lambda lot: mixed(lot, odd))
+            self.assertEqual(rows_broken(table), {5} if odd else set())
+            self.assertIs(is_algebra(table), not odd)
+
     def test_all_tables_of_two(self):
         found = []
         for told in product(range(2), repeat=11):

@@ -158,6 +158,7 @@ class Chains(TestCase):
                 self.assertRaises(BadPairs, ask, T, bad, None, None)
             for bad in BAD_ELEMENTS:
                 self.assertRaises(BadElement, ask, T, ((0, 1),), bad, None)
+                self.assertRaises(BadElement, ask, T, ((0, 1),), bad, 0)
                 self.assertRaises(BadElement, ask, T, ((0, 1),), 0, bad)
         self.assertEqual(chain(T, ((0, 1),) * 20, 0, 0), ())
         self.assertEqual(chain(algebra=T, pairs=(), first=0, last=0), ())
@@ -204,5 +205,6 @@ class Parting(TestCase):
             self.assertRaises(BadLot, parting, T, bad, None, None)
         for bad in BAD_ELEMENTS:
             self.assertRaises(BadElement, parting, T, (), bad, None)
+            self.assertRaises(BadElement, parting, T, (), bad, 0)
             self.assertRaises(BadElement, parting, T, (), 0, bad)
         self.assertEqual(parting(algebra=T, lot=(1,), first=1, last=0), ())

@@ -105,7 +105,7 @@ class Renamed(TestCase):
         two = ("reader", ("x", "y"), tallied(3), (0, 1, 2, 3), (2,))
         for bad in odd_values() + [two[:4]]:
             self.assertRaises(BadReader, renamed, bad, None)
-        for bad in odd_values() + [("a", "a"), ("a",), ("a", "b", "c"), (), ["a", "b"], ("a", "all"), ("a", "B"), "ab", ("a", None)]:
+        for bad in odd_values() + [("a", "a"), ("a",), ("a", "b", "c"), ("a", "a", "b"), (), ["a", "b"], ("a", "all"), ("a", "B"), "ab", ("a", None)]:
             self.assertRaises(BadNames, renamed, two, bad)
         self.assertEqual(renamed(reader=ONE_X, names=("x",)), ONE_X)
 

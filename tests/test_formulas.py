@@ -95,6 +95,9 @@ class Formulas(TestCase):
         # Names that are bound further out count inside.
         self.assertIs(is_formula(("some", "w", four)), False)
         self.assertIs(is_formula(("some", "x", ("some", "y", four))), False)
+        for thing in (("not", four), ("both", ONE, ("all", "w", four)), ("both", ("all", "w", four), boths(4))):
+            self.assertIs(is_formula(thing), False)
+            self.assertIs(is_long(thing), False)
         self.assertIs(is_formula(("both", ("some", "x", three), ("one", "w"))), True)
         self.assertEqual(free_names(("both", ("some", "x", three), ("one", "w"))), ("w", "y", "z"))
         self.assertIs(is_formula(("some", "w", ("both", three, ("all", "w", ("one", "w"))))), True)

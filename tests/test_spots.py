@@ -8,7 +8,7 @@ from alongall.spots import cut, is_spot
 from alongall.weaves import is_weave, length, size, spelled
 from tests.odd import Strange, odd_values, spoiled
 from tests.samples import (
-    A, ALGEBRAS, NONE, THREES, X, Y, back, letters_by_hand, many_weaves, mix, on, parts_by_hand, places_in_order,
+    A, ALGEBRAS, NONE, THREES, X, Y, back, bush, letters_by_hand, many_weaves, mix, on, parts_by_hand, places_in_order,
     spot_turned, spots_by_hand, then, turned_by_hand,
 )
 
@@ -201,6 +201,27 @@ class Cut(TestCase):
                         ahead, _, behind = cut(XYZ, weave, path)
                         self.assertTrue(is_weave(XYZ, ahead) and is_weave(XYZ, behind))
         self.assertEqual((size(XYZ, wide), size(XYZ, full), deep(wide), deep(full)), (23, 24, 3, 3))
+
+    def test_just_four_hundred_nodes(self):
+        self.assertEqual((size(("x",), on(bush(197))), size(("x",), on(bush(199)))), (198, 200))
+        ahead, letter, behind = cut(("x",), on(then(X, on(bush(197)))), (0, 0))
+        self.assertEqual((ahead, letter, size(("x",), behind)), (NONE, ("x",), 400))
+        with self.assertRaises(TooMany) as caught:
+            cut(("x",), on(then(X, bush(199))), (0, 0))
+        self.assertEqual(caught.exception.most, 400)
+
+    def test_pieces_that_are_alike(self):
+        e, m = then(X, Y), mix(A, Y)
+        for row in (
+            (X, Y, on(X)), (X, Y, Y, on(X)), (e, Y, on(e)), (X, e, on(e)), (e, e, on(e)), (on(e), e), (e, on(e), e), (m, m), (m, Y, m), (m, mix(A, X), m, m),
+            (back(e), Y, e), (back(e), e, Y), (back(e), e, e), (e, back(e)), (on(X), X, on(X)), (X, on(X), on(on(X))),
+            (X, X), (on(X), on(X)), (back(X), back(X)), (X, NONE, Y), (on(NONE), X), (X, on(NONE), on(X)),
+        ):
+            weave = A
+            for piece in row:
+                weave = ("then", weave, piece)
+            self.check_values(XY, weave, (0,) * len(row), ALGEBRAS + THREES)
+            self.check_values(XY, then(*row, A), (1,) * len(row), ALGEBRAS + THREES)
 
     def test_long_chains_of_on(self):
         weave = X

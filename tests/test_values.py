@@ -106,6 +106,7 @@ class Lots(TestCase):
             for ask in (plus, on_of, back_of):
                 self.assertRaises(BadLot, ask, T, bad)
             self.assertRaises(BadLot, then_of, T, bad, None)
+            self.assertRaises(BadLot, then_of, T, bad, (0,))
             self.assertRaises(BadLot, then_of, T, (0,), bad)
             self.assertRaises(BadLot, on_paper, T, bad, None)
             self.assertRaises(BadLot, is_on_paper, T, bad, None, None)

@@ -5,7 +5,7 @@ from unittest import TestCase
 from alongall.errors import BadLetters, BadScope, BadWeave, NotFinite
 from alongall.weaves import is_weave, length, letters, letters_in, size, spelled, written
 from tests.odd import doubled, nested, odd_values, spoiled
-from tests.samples import A, NONE, X, Y, back, letters_by_hand, many_weaves, mix, on, parts_by_hand, then
+from tests.samples import A, NONE, X, Y, back, bush, letters_by_hand, many_weaves, mix, on, parts_by_hand, then
 
 XY = ("x", "y")
 SCOPES = ((), ("x",), XY, ("a", "b", "c"), ("in", "none", "zzzzzzzz"))
@@ -42,15 +42,6 @@ def tower(many):
     for _ in range(many - 1):
         weave = on(weave)
     return weave
-
-
-def bush(many):
-    """A weave of many nodes, an odd number, that is not deep."""
-    if many == 1:
-        return A
-    half = (many - 1) // 2
-    half = half if half % 2 else half + 1
-    return ("then", bush(half), bush(many - 1 - half))
 
 
 class Letters(TestCase):
@@ -102,7 +93,9 @@ class IsWeave(TestCase):
         self.assertIs(is_weave((), ("mix", (on(A), ("mix", (A,))))), False)
         self.assertIs(is_weave(XY, ("mix", (A, X, ("letter", XY), Y))), True)
         self.assertIs(is_weave(XY, ("mix", (A, X, Y, ("letter", XY)))), False)
-        self.assertIs(is_weave((), on(("mix", (NONE, A)))), False)
+        for wrong in (("mix", (NONE, A)), ("mix", ()), ("mix", (A, A)), X):
+            for thing in (on(wrong), then(A, wrong), then(wrong, A), then(then(A, A), then(A, wrong)), mix(wrong), mix(A, on(wrong))):
+                self.assertIs(is_weave((), thing), False)
 
     def test_bounds(self):
         self.assertIs(is_weave((), tower(60)), True)
