@@ -8,15 +8,20 @@ from alongall.scopes import is_scope, letter_number, letter_row
 from alongall.words import is_name
 
 
-def widened(reader, scope):
-    """The least reader of the words of a wider scope that are taken if the other names are left out."""
-    need_reader(reader)
+def widened_to(reader, scope):
+    """What widened tells, all being as it should be."""
     _, names, algebra, starts, taken = reader
-    if not is_scope(scope) or not all(name in scope for name in names):
-        raise BadScope("no scope with the names of the reader")
     # A letter has the start of what is left of it in the scope of the reader.
     told = [starts[letter_number(names, letter)] for letter in letter_row(scope)]
     return least_of(scope, algebra, told, taken)
+
+
+def widened(reader, scope):
+    """The least reader of the words of a wider scope that are taken if the other names are left out."""
+    need_reader(reader)
+    if not is_scope(scope) or not all(name in scope for name in reader[1]):
+        raise BadScope("no scope with the names of the reader")
+    return widened_to(reader, scope)
 
 
 def are_unlike_names(thing, many):

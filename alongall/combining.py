@@ -13,11 +13,16 @@ def least_parts(reader):
     return least_of(scope, algebra, starts, taken)[2:]
 
 
+def contrary_of(reader):
+    """What contrary tells of what is a reader."""
+    _, scope, algebra, starts, taken = reader
+    return least_of(scope, algebra, starts, [a for a in range(algebra[1]) if a not in taken])
+
+
 def contrary(reader):
     """The least reader of the words that the reader does not take."""
     need_reader(reader)
-    _, scope, algebra, starts, taken = reader
-    return least_of(scope, algebra, starts, [a for a in range(algebra[1]) if a not in taken])
+    return contrary_of(reader)
 
 
 def met_together(one, other):
@@ -32,15 +37,25 @@ def met_together(one, other):
     return table_over(tables, line, places), [places[pair] for pair in pairs], counts
 
 
+def both_of(one, other):
+    """What meeting tells of what are readers of one scope."""
+    table, starts, counts = met_together(one, other)
+    return least_of(one[1], table, starts, [place for place, count in enumerate(counts) if count == 2])
+
+
+def either_of(one, other):
+    """What joining tells of what are readers of one scope."""
+    table, starts, counts = met_together(one, other)
+    return least_of(one[1], table, starts, [place for place, count in enumerate(counts) if count > 0])
+
+
 def meeting(one, other):
     """The least reader of the words that both take."""
     need_readers(one, other)
-    table, starts, counts = met_together(one, other)
-    return least_of(one[1], table, starts, [place for place, count in enumerate(counts) if count == 2])
+    return both_of(one, other)
 
 
 def joining(one, other):
     """The least reader of the words that at least one takes."""
     need_readers(one, other)
-    table, starts, counts = met_together(one, other)
-    return least_of(one[1], table, starts, [place for place, count in enumerate(counts) if count > 0])
+    return either_of(one, other)

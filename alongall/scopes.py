@@ -36,3 +36,8 @@ def is_letter(scope, thing):
     if not isinstance(thing, tuple) or len(thing) > len(scope):
         return False
     return all(isinstance(name, str) and name in scope for name in thing) and is_ascending(thing)
+
+
+def scope_of(names):
+    """The ascending tuple of some names."""
+    return tuple(sorted(set(names)))

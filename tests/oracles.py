@@ -346,3 +346,98 @@ def moved(reader, order):
         tuple(order[mix[sum(1 << home[a] for a in range(many) if mask >> a & 1)]] for mask in range(1 << many)),
     )
     return ("reader", scope, algebra, tuple(order[a] for a in starts), tuple(sorted(order[a] for a in takes)))
+
+
+def products_by_hand(algebra, lot):
+    """All products of one or more elements of a lot."""
+    found = set(lot)
+    while True:
+        more = found | {algebra[2][a][b] for a in found for b in lot}
+        if more == found:
+            return found
+        found = more
+
+
+def on_by_hand(algebra, lot):
+    """on_of of a lot."""
+    rows = products_by_hand(algebra, lot)
+    return {algebra[2][s][algebra[3][e]] for s in rows for e in rows}
+
+
+def back_by_hand(algebra, lot):
+    """back_of of a lot."""
+    rows = products_by_hand(algebra, lot)
+    return {algebra[2][algebra[4][e]][s] for s in rows for e in rows}
+
+
+def due_by_hand(algebra, kinds, lot):
+    """What must be in a closed lot that has this one."""
+    then = algebra[2]
+    whole = {a for kind in kinds for a in kind}
+    lot = set(lot)
+    ends = {then[y][a] for y in lot for a in whole}
+    begins = {then[a][y] for y in lot for a in whole}
+    beside = lot | ends | begins | {then[then[a][y]][b] for y in lot for a in whole for b in whole}
+    found = set()
+    for other in lots_of_numbers(whole | beside):
+        if set(other) & beside or (set(other) <= whole and all(set(other) & set(kind) for kind in kinds)):
+            found.add(mixed_in(algebra, other))
+    found |= {then[y][z] for y in lot for z in lot} | {then[then[y][a]][z] for y in lot for a in whole for z in lot}
+    if lot:
+        found |= on_by_hand(algebra, lot | ends) | back_by_hand(algebra, lot | begins)
+    return found
+
+
+def closed_by_hand(algebra, kinds, lot):
+    """Whether a lot is closed."""
+    return due_by_hand(algebra, kinds, lot) <= set(lot)
+
+
+def least_closed_by_hand(algebra, kinds):
+    """The least closed lot."""
+    lot = set()
+    while not closed_by_hand(algebra, kinds, lot):
+        lot |= due_by_hand(algebra, kinds, lot)
+    return tuple(sorted(lot))
+
+
+def lots_by_hand(algebra, given, most=10):
+    """What lots_of tells, None if more lots are come to."""
+    lots = []
+
+    def meet(lot):
+        lot = tuple(sorted(lot))
+        if lot not in lots:
+            lots.append(lot)
+        return lots.index(lot)
+
+    def then(one, other):
+        return {algebra[2][a][b] for a in one for b in other}
+
+    def mix(number, row):
+        return least_closed_by_hand(algebra, [lot for at, lot in enumerate(row) if number >> at & 1])
+
+    for lot in ((0,),) + tuple(given):
+        meet(lot)
+    known = []
+    while len(known) < len(lots):
+        known = list(lots)
+        for one in known:
+            for other in known:
+                meet(then(one, other))
+        for lot in known:
+            meet(on_by_hand(algebra, lot))
+        for lot in known:
+            meet(back_by_hand(algebra, lot))
+        if len(lots) > most:
+            return None
+        for number in range(1, 2 ** len(known)):
+            meet(mix(number, known))
+            if len(lots) > most:
+                return None
+    ways = (
+        tuple(tuple(meet(then(one, other)) for other in lots) for one in lots),
+        tuple(meet(on_by_hand(algebra, lot)) for lot in lots), tuple(meet(back_by_hand(algebra, lot)) for lot in lots),
+    )
+    mixes = (0,) + tuple(meet(mix(number, lots)) for number in range(1, 2 ** len(lots)))
+    return tuple(lots), ways, mixes

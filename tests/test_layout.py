@@ -48,6 +48,24 @@ INTERFACE = {
         "is_lot": "algebra thing", "then_of": "algebra one other", "plus": "algebra lot", "on_of": "algebra lot",
         "back_of": "algebra lot", "on_paper": "algebra lot element", "is_on_paper": "algebra lot element thing",
     },
+    "mixes": {
+        "mix_of": "algebra kinds", "is_closed": "algebra kinds thing", "mix_paper": "algebra kinds element",
+        "is_mix_paper": "algebra kinds element thing",
+    },
+    "lots": {"lots_of": "algebra given", "values_of": "algebra scope starts weave"},
+    "hiding": {"hidden": "reader name"},
+    "texts": {"text_of": "formula", "formula_of": "text"},
+    "compiling": {"reader_of": "formula"},
+    "making": {
+        "turned": "scope weave", "without": "scope weave names", "part_at": "scope weave path",
+        "with_part": "scope weave path part",
+    },
+    "steps": {"is_rule": "scope one other", "is_road": "scope one other thing", "gone": "scope weave road"},
+    "markings": {
+        "marking": "algebra scope starts name weave element",
+        "is_marking": "algebra scope starts name weave element thing",
+        "marked_values": "algebra scope starts name weave",
+    },
 }
 BARRED_NAMES = (
     "register mro elements open input law version_info with_traceback add_note attrgetter breakpoint builtins compile copyright "
