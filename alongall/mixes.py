@@ -111,18 +111,18 @@ def mix_paper(algebra, kinds, element):
 
 
 class Paper:
-    """What the lines of a mix paper told so far; of what is no right line None comes."""
+    """The elements that lines ahead tell; of what is no right line None comes."""
 
     def __init__(self, algebra, kinds):
         self.algebra = algebra
         self.kinds = kinds
         self.whole = union_of(kinds)
         self.mixing = Mixing(algebra)
-        self.told = []
+        self.ahead = []
 
     def is_line(self, thing):
         """Whether any value is the number of a line ahead."""
-        return is_below(thing, len(self.told))
+        return is_below(thing, len(self.ahead))
 
     def is_element(self, thing):
         """Whether any value is an element of the kinds."""
@@ -137,7 +137,7 @@ class Paper:
         if not is_lot_of(self.algebra, lot):
             return None
         mask = mask_of(lot)
-        beside = self.mixing.beside(self.whole, mask_of(self.told))
+        beside = self.mixing.beside(self.whole, mask_of(self.ahead))
         if mask | self.whole | beside != self.whole | beside:
             return None
         # A lot of elements of kinds alone tells no word yet unless it has some of each kind.
@@ -149,14 +149,14 @@ class Paper:
         """The element of a piece, of a row for on if way is on."""
         head = head_of(thing)
         if head == "line" and len(thing) == 2 and self.is_line(thing[1]):
-            return self.told[thing[1]]
+            return self.ahead[thing[1]]
         if head != ("ends" if way == "on" else "begins") or len(thing) != 3:
             return None
         _, one, other = thing
         if way == "on" and self.is_line(one) and self.is_element(other):
-            return self.then(self.told[one], other)
+            return self.then(self.ahead[one], other)
         if way == "back" and self.is_element(one) and self.is_line(other):
-            return self.then(one, self.told[other])
+            return self.then(one, self.ahead[other])
         return None
 
     def row(self, way, thing):
@@ -195,17 +195,17 @@ class Paper:
         if not self.is_line(thing[1]) or not self.is_line(thing[-1]):
             return None
         if head == "then":
-            return self.then(self.told[thing[1]], self.told[thing[2]])
+            return self.then(self.ahead[thing[1]], self.ahead[thing[2]])
         if not self.is_element(thing[2]):
             return None
-        return self.then(self.then(self.told[thing[1]], thing[2]), self.told[thing[3]])
+        return self.then(self.then(self.ahead[thing[1]], thing[2]), self.ahead[thing[3]])
 
     def take(self, thing):
         """Whether any value is the next line, which then is one of those ahead."""
         element = self.element_of(thing)
         if element is None:
             return False
-        self.told.append(element)
+        self.ahead.append(element)
         return True
 
 
@@ -220,4 +220,4 @@ def is_mix_paper(algebra, kinds, element, thing):
     for line in thing:
         if not paper.take(line):
             return False
-    return paper.told[-1] == element
+    return paper.ahead[-1] == element

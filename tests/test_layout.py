@@ -66,6 +66,14 @@ INTERFACE = {
         "is_marking": "algebra scope starts name weave element thing",
         "marked_values": "algebra scope starts name weave",
     },
+    "weighing": {"classes": "reader", "some_word": "reader", "apart": "one other"},
+    "deciding": {"means": "formula scope weave", "shown": "formula scope weave", "follows": "one other"},
+    "kinds": {"is_of": "kind scope weave", "met_in": "reader kind"},
+    "placing": {"where": "formula name scope weave"},
+    "verdicts": {"verdict_in": "sentence kind", "is_verdict_in": "sentence kind thing"},
+    "weavetexts": {"weave_text": "scope weave", "weave_of": "scope text"},
+    "desk": {"Desk": ""},
+    "families": {"tallying": "most", "bearing": "many", "leading": "many", "ordering": ""},
 }
 BARRED_NAMES = (
     "register mro elements open input law version_info with_traceback add_note attrgetter breakpoint builtins compile copyright "
@@ -153,7 +161,7 @@ class Layout(TestCase):
     def test_statements(self):
         barred = (
             ast.Global, ast.Nonlocal, ast.AsyncFunctionDef, ast.Await, ast.Yield, ast.YieldFrom, ast.AnnAssign, ast.Lambda,
-            ast.NamedExpr, ast.Set, ast.Try, ast.With, ast.Match, ast.Div, ast.Import, ast.Delete, ast.Pow, ast.MatMult,
+            ast.NamedExpr, ast.Set, ast.With, ast.Match, ast.Div, ast.Import, ast.Delete, ast.Pow, ast.MatMult,
         )
         for path in package_files():
             tree = ast.parse(path.read_text())
@@ -161,6 +169,11 @@ class Layout(TestCase):
                 self.assertNotIsInstance(node, barred, (path, getattr(node, "lineno", 0)))
                 if isinstance(node, ast.FunctionDef):
                     self.assertEqual(node.decorator_list, [])
+                if isinstance(node, ast.Try):
+                    self.assertEqual(node.finalbody + node.orelse, [])
+                    caught = [name.id for one in node.handlers for name in ast.walk(one.type) if isinstance(name, ast.Name)]
+                    self.assertTrue(all(name.startswith(("Bad", "No", "Too")) for name in caught), (path, caught))
+                    self.assertEqual(len(caught), len(set(caught)))
                 if isinstance(node, ast.Constant):
                     self.assertNotIsInstance(node.value, (float, complex, bytes))
                     if isinstance(node.value, str):
