@@ -17,7 +17,7 @@ class Lots:
     def __init__(self, algebra, given):
         self.mixing = Mixing(algebra)
         self.lots = []
-        self.known = {0: 1}
+        self.known = {}
         for lot in [1] + given:
             self.meet(lot)
 

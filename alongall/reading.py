@@ -36,10 +36,6 @@ class Reading:
             self.fail()
         self.nodes = self.nodes + more
 
-    def has_room(self, more):
-        """Whether there is room for so many nodes more."""
-        return self.nodes + more <= self.most
-
     def letters(self):
         """Goes over the letters a to z, as many as there are up to 8, and tells them."""
         start = self.at

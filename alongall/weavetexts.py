@@ -47,10 +47,10 @@ def read_letter(reading, scope):
     reading.take("[")
     names = []
     left = scope
-    if reading.sign() != "]" and len(scope) > 0:
+    if reading.sign() != "]":
         names.append(read_one_of(reading, left))
         left = scope[scope.index(names[-1]) + 1:]
-    while reading.sign() == "," and len(names) > 0 and len(left) > 0:
+    while reading.sign() == "," and len(left) > 0:
         reading.take(",")
         names.append(read_one_of(reading, left))
         left = scope[scope.index(names[-1]) + 1:]
@@ -61,7 +61,7 @@ def read_letter(reading, scope):
 def read_parts(reading, scope, deep):
     """The parts of a mix, as many as there are."""
     parts = [read_weave(reading, scope, deep)]
-    while reading.sign() == "," and reading.has_room(1):
+    while reading.sign() == ",":
         reading.grow(1)
         reading.take(",")
         parts.append(read_weave(reading, scope, deep))

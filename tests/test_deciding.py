@@ -40,7 +40,7 @@ class Means(TestCase):
     def test_finite_words(self):
         # The scope has names that are not free, too.
         many = 0
-        for formula in many_formulas(130, XY, 4, 100) + atoms(XY):
+        for formula in many_formulas(130, XY, 4, 60) + atoms(XY):
             if too_many(reader_of, formula) is not None:
                 continue
             many += 1
@@ -48,7 +48,7 @@ class Means(TestCase):
                 for row in list(product(letters_by_hand(XY), repeat=long))[::7]:
                     right = holds(formula, long, sets_of(XY, row))
                     self.assertIs(means(formula, XY, written(XY, row)), right, (formula, row))
-        self.assertGreater(many, 100)
+        self.assertGreater(many, 70)
 
     def test_other_names_mean_nothing(self):
         scope = ("a", "m", "x")
@@ -173,6 +173,13 @@ class Shown(TestCase):
         self.assertEqual(too_many(shown, ("some", "x", ("bare", "x")), (), deep(60)), None)
         self.assertIsNone(shown(formula=("some", "x", ("one", "x")), scope=(), weave=NONE))
 
+    def test_what_is_small_enough_is_shown(self):
+        # One marked place would be too deep, none is not.
+        formula = formula_of("some x: (one x | bare x)")
+        self.assertEqual(shown(formula, (), deep(60)), (deep(60), ()))
+        self.assertEqual(shown(formula_of("all x: (one x & !bare x)"), (), deep(60))[0], deep(60))
+        self.assertEqual(shown(formula_of("some x: (one x | bare x)"), (), on(bush(399))), (on(bush(399)), ()))
+
     def test_parts_are_read_not_the_whole(self):
         # The reader of the formula itself is not needed.
         part = formula_of("(x in y & y in x)")
@@ -217,7 +224,7 @@ class Follows(TestCase):
 
     def test_atoms(self):
         many = 0
-        for one, other in list(product(atoms(XY), repeat=2))[::7] + list(product(atoms(("x",)), atoms(("a", "y")))):
+        for one, other in list(product(atoms(XY), repeat=2))[::13] + list(product(atoms(("x",)), atoms(("a", "y")))):
             if too_many(follows, one, other) is None:
                 told = self.check(one, other)
                 many += 1
@@ -227,7 +234,7 @@ class Follows(TestCase):
                         sets = sets_of(scope, row)
                         if holds(one, long, sets) and not holds(other, long, sets):
                             self.assertIsNotNone(told)
-        self.assertGreater(many, 200)
+        self.assertGreater(many, 150)
 
     def test_equal_ones(self):
         for formula in atoms(XY) + many_formulas(135, XY, 3, 30):

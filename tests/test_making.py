@@ -179,6 +179,7 @@ class Parts(TestCase):
             self.assertRaises(BadWeave, part_at, XY, bad, None)
             self.assertRaises(BadWeave, with_part, XY, bad, None, None)
             self.assertRaises(BadWeave, with_part, XY, on(X), (0,), bad)
+            self.assertRaises(BadWeave, with_part, XY, mix(A, X, on(X)), (1,), bad)
             self.assertRaises(BadPath, with_part, XY, on(X), (1,), bad)
         self.assertEqual(part_at(scope=(), weave=on(A), path=(0,)), A)
         self.assertEqual(with_part(scope=(), weave=on(A), path=(0,), part=NONE), on(NONE))

@@ -157,6 +157,16 @@ class Markings(TestCase):
         for weave in (bush(399), on(bush(185)), mix(bush(31), on(bush(29)))):
             self.check(*COUNT, weave)
 
+    def test_just_four_hundred_nodes(self):
+        whole = on(bush(399))
+        self.assertEqual(marking(*COUNT, whole, 0), (whole, ()))
+        self.assertEqual(marking(*COUNT, whole, 2)[1], ())
+        row = then(bush(199), on(bush(99)))
+        self.assertEqual(size((), row), 300)
+        marked, road = marking(*COUNT, then(row, bush(99)), 1)
+        self.assertEqual(size(("x",), marked), 400)
+        self.assertTrue(is_marking(*COUNT, then(row, bush(99)), 1, (marked, road)))
+
     def test_too_many(self):
         # Just one place is marked in what goes on: one copy more is needed, or three.
         for weave in (on(bush(301)), mix(bush(201)), deep(60), deep(59, back(A))):

@@ -128,7 +128,7 @@ class MixOf(TestCase):
 class Papers(TestCase):
     def test_a_paper_exactly_if_in_mix_of(self):
         for algebra in SMALL_ALGEBRAS + THREES + (borne(3), led(6)):
-            for kinds in some_kinds(algebra, 25)[::1 if algebra[1] < 5 else 9]:
+            for kinds in some_kinds(algebra, 12)[::1 if algebra[1] < 5 else 20]:
                 inside = mix_of(algebra, kinds)
                 for element in range(algebra[1]):
                     told = mix_paper(algebra, kinds, element)

@@ -3,16 +3,20 @@
 from itertools import product
 from unittest import TestCase
 
+from alongall.algebras import is_algebra
+from alongall.building import flipped
 from alongall.compiling import reader_of
 from alongall.deciding import means
 from alongall.errors import BadFormula, BadName, BadScope, BadWeave, NoName, TooMany
 from alongall.making import without
-from alongall.placing import where
+from alongall.placing import Placing, where
 from alongall.texts import formula_of
 from alongall.weaves import is_weave, size, written
 from tests.formulas import atoms, free_by_hand, holds, many_formulas, sets_of, told_short
 from tests.odd import odd_values
-from tests.samples import A, NONE, X, Y, back, bush, letters_by_hand, many_weaves, mix, on, parts_by_hand, then, turned_by_hand
+from tests.samples import (
+    A, NONE, X, Y, back, bush, letters_by_hand, many_weaves, mix, on, parts_by_hand, table_by, then, turned_by_hand,
+)
 from tests.test_deciding import BAD_FORMULAS
 from tests.test_making import BAD_SCOPES, BAD_WEAVES, deep
 
@@ -148,16 +152,38 @@ class Where(TestCase):
                     continue
 
     def test_rows_of_on_and_back(self):
-        # x is the third place at least: the copies part one by one, then all are alike.
-        third = formula_of("some y: some z: (one y & (one z & (y < z & z < x)))")
-        if too_many(reader_of, third) is None and "x" in free_by_hand(third):
-            teller = Teller(third, "x")
-            for weave in (on(A), back(A), on(on(A)), back(back(A)), on(back(A)), then(on(A), A), mix(A, on(A))):
-                self.assertEqual(where(third, "x", (), weave), teller.told(weave, 0, 0))
+        # The copies part one by one, then all are alike.
         second = formula_of("some y: next y x")
-        self.assertEqual(where(second, "x", (), on(A)), Teller(second, "x").told(on(A), 0, 0))
-        self.assertEqual(where(second, "x", (), back(A)), Teller(second, "x").told(back(A), 0, 0))
+        second_last = formula_of("some y: (next x y & all z: (!one z | (z < y | same z y)))")
+        second_first = formula_of("some y: (next y x & all z: (!one z | (y < z | same z y)))")
+        for formula, weave, right in (
+            (second_last, back(A), ("then", back(A), ("then", X, A))), (second_last, on(A), then(A, A, on(A))), (second_first, on(A), then(A, X, on(A))),
+            (second_first, back(A), then(back(A), A, A)), (second, on(A), then(A, on(X))), (second, back(A), then(back(X), X)),
+            (second_first, on(on(A)), then(then(A, X, on(A)), on(on(A)))), (second_last, back(back(A)), ("then", back(back(A)), then(back(A), X, A))),
+            (second_first, then(A, A), then(A, X)), (second_last, then(A, A), then(X, A)), (second_last, then(A, A, A), then(A, X, A)),
+        ):
+            self.assertEqual(where(formula, "x", (), weave), right, weave)
+        for formula in (second, second_last, second_first):
+            teller = Teller(formula, "x")
+            for weave in (on(back(A)), then(on(A), A), mix(A, on(A)), back(then(A, A)), on(then(A, A)), back(on(A)), then(A, back(A), A)):
+                self.assertEqual(where(formula, "x", (), weave), teller.told(weave, 0, 0))
         self.assertEqual(where(second, "x", (), mix(A, then(A, A))), mix(A, then(A, X)))
+
+    def test_rows_that_come_again(self):
+        # A reader of words with one x, as many places ahead of it as make an even number: copies go by twos.
+        table = table_by(7, even_then, lambda a: 0 if a == 0 else 3 if a < 4 else 6, lambda a: 0 if a == 0 else 3 if a < 4 else 6, even_mix)
+        self.assertTrue(is_algebra(table))
+        reader = ("reader", ("x",), table, (1, 4), (4,))
+        placing = Placing(reader, "x")
+        self.assertEqual(placing.told(on(A), 0, 0), then(X, on(then(A, X))))
+        self.assertEqual(placing.told(on(then(A, A)), 0, 0), then(then(X, A), on(then(X, A))))
+        self.assertEqual(placing.told(on(then(A, A, A)), 0, 0), then(then(X, A, X), on(then(then(A, X, A), then(X, A, X)))))
+        self.assertEqual(placing.told(then(A, on(A)), 0, 0), then(X, on(then(A, X))))
+        self.assertEqual(placing.told(back(A), 0, 0), then(back(then(A, A)), A))
+        other = Placing(("reader", ("x",), flipped(table), (1, 4), (4,)), "x")
+        self.assertEqual(other.told(back(A), 0, 0), ("then", back(then(X, A)), X))
+        self.assertEqual(other.told(back(then(A, A, A)), 0, 0), ("then", back(then(then(X, A, X), then(A, X, A))), then(X, A, X)))
+        self.assertEqual(other.told(on(A), 0, 0), then(A, on(then(A, A))))
 
     def test_names_that_are_left_out(self):
         formula = formula_of("(x in y & some z: z in z)")
@@ -227,6 +253,21 @@ class Where(TestCase):
         self.assertEqual(too_many(where, eight, "x", ("y",), deep(60)), 8)
         self.assertEqual(too_many(where, told_short(("dense", "x")), "x", (), A), 10)
         self.assertEqual(where(formula=("one", "x"), name="x", scope=(), weave=on(A)), where(("one", "x"), "x", (), on(A)))
+
+
+def even_then(a, b):
+    """Numbers of places: none, odd, even, endless; then x with an even number ahead, an odd one, others with x."""
+    if a == 0 or b == 0:
+        return a + b
+    if a < 4 and b < 4:
+        return 3 if 3 in (a, b) else 2 - (a + b) % 2
+    if a >= 4:
+        return 6 if b >= 4 else a
+    return b if a == 2 else 9 - b if a == 1 and b < 6 else 6
+
+
+def even_mix(lot):
+    return 6 if any(a >= 4 for a in lot) else 3 if any(lot) else 0
 
 
 def depth(weave):

@@ -36,7 +36,7 @@ class Rules(TestCase):
     def test_what_a_rule_tells_is_the_same(self):
         # Each pair that the words of the rows make; with one part made other it is a rule only if the values stay.
         algebras = [algebra for algebra in ALGEBRAS if algebra[1] <= 4] + list(THREES)
-        for weave in many_weaves(100, ("x",), 3, 60):
+        for weave in many_weaves(100, ("x",), 3, 30):
             for other in rules_from(weave):
                 self.assertIs(is_rule(("x",), weave, other), True)
                 for path in paths_in(other):

@@ -11,6 +11,7 @@ from alongall.least import least
 from alongall.readers import takes
 from alongall.weaves import is_weave, size
 from alongall.weighing import apart, classes, some_word
+from tests.formulas import atoms
 from tests.odd import odd_values
 from tests.oracles import moved, same_words, walk_by_hand
 from tests.samples import (
@@ -88,6 +89,33 @@ class Classes(TestCase):
             for element, weave in told.items():
                 if element not in right:
                     self.assertGreater(size(reader[1], weave), 4)
+
+    def test_readers_of_formulas(self):
+        for formula in atoms(("x",)) + atoms(("x", "y")):
+            reader = reader_of(formula)
+            most = 4 if len(reader[1]) < 2 else 3
+            told = dict(classes(reader))
+            right = least_by_hand(reader, most)
+            for element in range(reader[2][1]):
+                if element in right:
+                    self.assertEqual(told[element], right[element], formula)
+                else:
+                    self.assertGreater(size(reader[1], told[element]), most)
+
+    def test_either_way_round(self):
+        y = ("letter", ("y",))
+        for one, other, first, last in (("x", "y", X, y), ("y", "x", y, X)):
+            self.assertEqual(some_word(reader_of(("next", one, other))), then(first, last))
+
+    def test_fewer_nodes_first(self):
+        # then of two letters has 3 nodes, a mix of three letters 4, one of two letters 3.
+        scope = ("x", "y")
+        table = tallied(2)
+        starts = (0, 1, 1, 1)
+        self.assertEqual(some_word(("reader", scope, table, starts, (2,))), back(X))
+        self.assertEqual(some_word(("reader", scope, borne(2), (0, 1, 2, 0), (3,))), mix(X, ("letter", ("y",))))
+        self.assertEqual(some_word(("reader", scope, borne(3), (1, 2, 4, 0), (7,))), mix(A, X, ("letter", ("y",))))
+        self.assertEqual(some_word(("reader", (), tallied(3), (1,), (2,))), then(A, A))
 
     def test_just_what_is_met(self):
         for reader in many_readers(122, 60) + many_readers(123, 20, algebras=ALGEBRAS):
