@@ -6,10 +6,10 @@ steps that lead from there to the weave that was marked.
 
 from alongall.errors import TooMany
 from alongall.making import mix_with, put_in
-from alongall.weaves import MOST_NODES
+from alongall.weaves import MOST_NODES, node_count
 
 NONE = ("none",)
-MOST_TRIES = 60
+MOST_TRIES = 200
 
 
 def lifted(numbers, road):
@@ -63,12 +63,11 @@ class Gathering:
         self.clash = None
 
     def merge(self, at):
-        """Takes out what has fallen together with a part; keeps which one stands in the way of unlike targets."""
+        """Takes out what has fallen together with a part; keeps the later one of two that have unlike targets."""
         for other, weave in enumerate(self.now):
             if other != at and self.live[other] and weave == self.now[at]:
                 if self.targets[other] != self.targets[at]:
-                    # What has come to its target stays there, so the other one must go another way.
-                    self.clash = other if weave == self.targets[at] else at
+                    self.clash = max(at, other)
                 self.live[other] = False
 
     def place(self, at):
@@ -100,6 +99,10 @@ def gathered_once(laid, targets):
 
 def gathered(laid, targets):
     """The mix of parts laid out, each of which leads to its target."""
+    # Steps make weaves smaller: what goes on to a larger target meets no smaller one where a part has come to its end.
+    order = [at for nodes, at in sorted([(node_count(target), at) for at, target in enumerate(targets)])]
+    laid = [laid[at] for at in order]
+    targets = [targets[at] for at in order]
     many = [0] * len(laid)
     for _ in range(MOST_TRIES):
         rows = [wrapped_laid(one, many[at], targets[at]) for at, one in enumerate(laid)]

@@ -103,3 +103,23 @@ def some_road(random, weave, long):
         road.append((path, part))
         weave = placed_in(weave, path, part)
     return tuple(road), weave
+
+
+def nodes_by_hand(weave):
+    return 1 + sum(nodes_by_hand(part) for part in parts_by_hand(weave))
+
+
+def road_to(random, target, long):
+    """A weave and a road from it to a target, each step of which makes it smaller."""
+    here, steps = target, []
+    for _ in range(long):
+        path = random.choice(paths_in(here))
+        old = part_by_hand(here, path)
+        part = random.choice(rules_from(old))
+        new = placed_in(here, path, part)
+        # Parts of mixes may have changed their places, or fallen together: then the step does not lead back.
+        if nodes_by_hand(new) > nodes_by_hand(here) and path in paths_in(new) and placed_in(new, path, old) == here:
+            if part_by_hand(new, path) == part:
+                steps.append((path, old))
+                here = new
+    return here, steps[::-1]

@@ -13,6 +13,7 @@ from alongall.steps import is_road
 from alongall.values import is_on_paper, on_of
 from alongall.weaves import is_weave, size
 from tests.odd import odd_values, spoiled
+from tests.rules import road_to, some_road
 from tests.samples import (
     A, ALGEBRAS, NONE, SMALL_ALGEBRAS, THREES, X, back, borne, bush, led, letters_by_hand, many_weaves, mix, on, ordered, tallied, then,
 )
@@ -139,6 +140,17 @@ class Markings(TestCase):
             marked, bare, road = gathered(laid, targets)
             self.assertEqual(without(("x",), marked, ("x",)), bare)
             self.assertTrue(is_road((), bare, mix(*targets), tuple(road)), (laid, targets))
+
+    def test_gathered_from_anywhere(self):
+        random = Random(116)
+        for base in many_weaves(117, ("x",), 3, 400):
+            targets = [some_road(random, base, random.randrange(3))[1] for _ in range(random.randrange(2, 5))]
+            starts = [road_to(random, target, random.randrange(4)) for target in targets]
+            laid = [(start, start, road) for start, road in starts]
+            if sum(size(("x",), start) for start, _ in starts) < 200:
+                marked, bare, road = gathered(laid, targets)
+                self.assertEqual(marked, bare)
+                self.assertTrue(is_road(("x",), bare, mix(*targets), tuple(road)), (laid, targets))
 
     def test_fact_of_values(self):
         random = Random(114)
