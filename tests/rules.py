@@ -123,3 +123,49 @@ def road_to(random, target, long):
                 steps.append((path, old))
                 here = new
     return here, steps[::-1]
+
+
+def weaves_within(weave):
+    """The weave and all weaves in it."""
+    found = [weave]
+    for part in parts_by_hand(weave):
+        found += weaves_within(part)
+    return found
+
+
+def is_row_by_hand(one, other):
+    """Whether two weaves are, in this order, the two of a row of the rules: by trying all e, f, g and P in them."""
+    parts = [NONE] + weaves_within(one) + weaves_within(other)
+    for e in parts:
+        row = ("then", e, e)
+        for _ in range(12):
+            if (one, other) in ((on(e), on(row)), (back(e), back(row))):
+                return True
+            row = ("then", e, row)
+        if (one, other) in (
+            (("then", NONE, e), e), (("then", e, NONE), e), (on(NONE), NONE), (back(NONE), NONE), (mix(NONE), NONE),
+            (on(e), ("then", e, on(e))), (back(e), ("then", back(e), e)),
+        ):
+            return True
+        for f in parts:
+            if (one, other) in (
+                (on(("then", e, f)), ("then", e, on(("then", f, e)))), (back(("then", e, f)), ("then", back(("then", f, e)), f)),
+            ):
+                return True
+            if one[0] == "then" and one[1] == ("then", e, f) and other == ("then", e, ("then", f, one[2])):
+                return True
+    if one[0] != "mix":
+        return False
+    return is_mix_row_by_hand(one, other)
+
+
+def is_mix_row_by_hand(m, other):
+    """The rows that begin with a mix."""
+    if NONE in m[1] and len(m[1]) > 1 and other == mix(*[part for part in m[1] if part != NONE]):
+        return True
+    if other in (then(m, m), on(m), back(m)):
+        return True
+    if any(other in (then(m, c, m), on(("then", m, c)), back(("then", c, m))) for c in m[1]):
+        return True
+    forms = [m] + [("then", c, m) for c in m[1]] + [("then", m, d) for d in m[1]] + [then(c, m, d) for c in m[1] for d in m[1]]
+    return other[0] == "mix" and any(part in forms for part in other[1]) and all(part in forms or part in m[1] for part in other[1])

@@ -9,7 +9,7 @@ from alongall.errors import BadRoad, BadScope, BadWeave
 from alongall.making import turned, without
 from alongall.steps import gone, is_road, is_rule
 from tests.odd import odd_values, spoiled
-from tests.rules import part_by_hand, paths_in, placed_in, rows_of_three, rules_from, some_road
+from tests.rules import is_row_by_hand, part_by_hand, paths_in, placed_in, rows_of_three, rules_from, some_road
 from tests.samples import ALGEBRAS, A, NONE, THREES, X, Y, back, bush, many_weaves, mix, on, then
 from tests.test_making import BAD_SCOPES, BAD_WEAVES, deep
 
@@ -47,6 +47,27 @@ class Rules(TestCase):
                                 for starts in ((0, 1), (1, 0), (1, 1), (algebra[1] - 1, 1)):
                                     self.assertEqual(
                                         value(algebra, ("x",), starts, weave), value(algebra, ("x",), starts, bent))
+
+    def test_one_part_made_other(self):
+        rules, others = 0, 0
+        for e, f, g in ((A, X, on(A)), (X, X, A), (mix(A), A, NONE)):
+            for word, pairs in rows_of_three(e, f, g).items():
+                for one, other in pairs[:14]:
+                    for path in paths_in(other):
+                        for part in (A, X, NONE, on(A), back(X), e, f, mix(e), then(e, e)):
+                            bent = placed_in(other, path, part)
+                            right = is_row_by_hand(one, bent) or is_row_by_hand(bent, one)
+                            self.assertIs(is_rule(XY, one, bent), right, (word, one, bent))
+                            self.assertIs(is_rule(XY, bent, one), right, (word, one, bent))
+                            rules, others = rules + right, others + (not right)
+        self.assertGreater(rules, 300)
+        self.assertGreater(others, 1500)
+
+    def test_some_pairs(self):
+        weaves = many_weaves(107, ("x",), 3, 60) + [NONE, A, X, on(A), mix(A), mix(A, NONE), mix(mix(A))]
+        for one, other in product(weaves, repeat=2):
+            right = is_row_by_hand(one, other) or is_row_by_hand(other, one)
+            self.assertIs(is_rule(XY, one, other), right, (one, other))
 
     def test_no_rules(self):
         m = mix(A, X)
