@@ -36,3 +36,13 @@ def head_of(thing):
     if isinstance(thing, tuple) and len(thing) > 0 and isinstance(thing[0], str):
         return thing[0]
     return ""
+
+
+def is_same(right, thing):
+    """Whether any value is the same as a tree of tuples and strings."""
+    # An equality could mean anything for what is of no such kind, so trees are gone through part by part.
+    if isinstance(right, str):
+        return isinstance(thing, str) and thing == right
+    if not isinstance(thing, tuple) or len(thing) != len(right):
+        return False
+    return all(is_same(part, other) for part, other in zip(right, thing))

@@ -74,6 +74,30 @@ INTERFACE = {
     "weavetexts": {"weave_text": "scope weave", "weave_of": "scope text"},
     "desk": {"Desk": ""},
     "families": {"tallying": "most", "bearing": "many", "leading": "many", "ordering": ""},
+    "filling": {"woven": "scope weave other fills", "filled": "reader scope fills"},
+    "flaws": {"flaw": "table", "is_flaw": "table thing"},
+    "fullwords": {
+        "value_of": "formula letter", "then_value": "formula one other", "on_value": "formula one", "back_value": "formula one",
+        "mix_value": "formula lot",
+    },
+    "lengths": {
+        "repeats": "reader weave", "lengths": "reader", "sure_lengths": "reader", "powers": "reader weave", "powers_back": "reader weave",
+    },
+    "levels": {"levels": "reader", "level": "scope weave"},
+    "marking": {"marked": "scope formula weave name"},
+    "papers": {"paper_of": "reader", "is_paper": "reader thing"},
+    "views": {"view": "scope weave depth", "alike_to": "scope one other depth", "least_depth": "scope one other most"},
+    "parters": {"parter": "scope one other depth", "is_parter": "scope one other depth thing"},
+    "parting": {"kept": "scope weave name", "picked": "reader name", "relative": "sentence name", "mirrored": "formula"},
+    "placetables": {
+        "table_of": "formula", "is_bar_table": "formula thing", "word_for": "formula", "places_parted": "one other",
+    },
+    "roundforms": {"is_rounds": "thing", "loose": "formula", "rounds_of": "formula", "in_sets": "formula"},
+    "sayings": {"so": "scope formula weave", "so_at": "scope formula weave spot", "sentence_apart": "scope one other depth"},
+    "shorthand": {"as_formula": "short", "without_shorts": "formula"},
+    "ties": {"tie": "one other", "is_tie": "one other thing", "sameness": "one other", "is_sameness": "one other thing"},
+    "ways": {"is_way": "one other thing", "way_of": "one other given", "clash": "one other given", "is_clash": "one other given thing"},
+    "wrapping": {"wrapped": "reader surroundings weave", "asked": "reader surroundings"},
 }
 BARRED_NAMES = (
     "register mro elements open input law version_info with_traceback add_note attrgetter breakpoint builtins compile copyright "

@@ -1,0 +1,98 @@
+"""Whether rounds formulas hold, told by views alone.
+
+A standing is a quadruple (depth, faces, letters, seats): the letters of some places picked in a word,
+in order, the faces, of a depth, of what is ahead of the first one, between them and behind the last
+one, and the pairs of a name and the number of the place that it stands for.
+"""
+
+from alongall.roundforms import ATOM_HEADS, BINDERS, forms_in, loose_in, rounds_in
+
+
+class Telling:
+    """Faces, the formulas in a rounds formula, each with its free names and its rounds, and what is known of them."""
+
+    def __init__(self, faces, formula):
+        self.faces = faces
+        self.knots = []
+        self.root = self.spread(formula)
+        self.known = {}
+
+    def spread(self, formula):
+        """The number of a formula among the knots."""
+        parts = [self.spread(part) for part in forms_in(formula)]
+        self.knots.append((formula, parts, loose_in(formula), rounds_in(formula)))
+        return len(self.knots) - 1
+
+    def trimmed(self, at, standing):
+        """The standing with no more in it than the formula of a knot looks at."""
+        depth, faces, letters, seats = standing
+        _, _, names, deep = self.knots[at]
+        seats = [(name, place) for name, place in seats if name in names]
+        places = sorted({place for name, place in seats})
+        row = [self.faces.lowered(depth, face, deep) for face in faces]
+        kept = [row[0]]
+        for place, letter in enumerate(letters):
+            if place in places:
+                kept.append(row[place + 1])
+            else:
+                between = self.faces.then(deep, self.faces.letter(deep, letter), row[place + 1])
+                kept[-1] = self.faces.then(deep, kept[-1], between)
+        told = tuple([(name, places.index(place)) for name, place in seats])
+        return deep, tuple(kept), tuple([letters[place] for place in places]), told
+
+    def holds(self, at, standing):
+        """Whether the formula of a knot holds in a standing."""
+        standing = self.trimmed(at, standing)
+        key = (at, standing)
+        if key not in self.known:
+            self.known[key] = self.told(at, standing)
+        return self.known[key]
+
+    def told(self, at, standing):
+        """What holds keeps."""
+        formula, parts, _, _ = self.knots[at]
+        head = formula[0]
+        if head in ATOM_HEADS:
+            return atom_holds(formula, standing)
+        if head in BINDERS:
+            return self.bound_holds(head, formula[1], parts[0], standing)
+        if head == "not":
+            return not self.holds(parts[0], standing)
+        # The second part is looked at only if it counts.
+        if self.holds(parts[0], standing) == (head == "either"):
+            return head == "either"
+        return self.holds(parts[1], standing)
+
+    def bound_holds(self, head, name, part, standing):
+        """Whether a formula holds for some place as a name, or for all of them."""
+        wanted = head == "some"
+        for one in self.picks(name, standing):
+            if self.holds(part, one) == wanted:
+                return wanted
+        return not wanted
+
+    def picks(self, name, standing):
+        """The standings with one more place picked, or one picked again, for a name."""
+        depth, faces, letters, seats = standing
+        found = []
+        for place in range(len(letters)):
+            found.append((depth, faces, letters, seats + ((name, place),)))
+        less = [self.faces.one_less(depth, face) for face in faces]
+        for at, face in enumerate(faces):
+            moved = [(other, place + 1 if place >= at else place) for other, place in seats]
+            for l, c, r in self.faces.rows[depth][face]:
+                row = tuple(less[:at] + [l, r] + less[at + 1:])
+                found.append((depth - 1, row, letters[:at] + (c,) + letters[at:], tuple(moved + [(name, at)])))
+        return found
+
+
+def atom_holds(formula, standing):
+    """Whether an atom holds in a standing."""
+    _, _, letters, seats = standing
+    places = {name: place for name, place in seats}
+    place = places[formula[1]]
+    if formula[0] == "bears":
+        return formula[2] in letters[place]
+    if formula[0] == "before":
+        return place < places[formula[2]]
+    return place == places[formula[2]]
