@@ -3,7 +3,7 @@
 from alongall.algebras import need_algebra
 from alongall.errors import BadGiven
 from alongall.plain import is_below
-from alongall.walks import places_in, table_over, walk
+from alongall.walks import numbers_met, pair_table, pairs_met, places_in, table_of_some
 
 MOST_GIVEN = 8
 MOST_MET = 8
@@ -26,9 +26,8 @@ def made(algebra, given):
     need_algebra(algebra)
     if not is_given(given) or not all(is_below(element, algebra[1]) for element in given):
         raise BadGiven("no tuple of at most 8 numbers of it")
-    tables = (algebra,)
-    line = walk(tables, [(element,) for element in given], MOST_MET)
-    return table_over(tables, line, places_in(line)), tuple([thing[0] for thing in line])
+    line = numbers_met(algebra, given)
+    return table_of_some(algebra, line, places_in(line)), tuple(line)
 
 
 def paired(one, other, given):
@@ -37,9 +36,8 @@ def paired(one, other, given):
     need_algebra(other)
     if not is_given(given) or not all(is_pair_of(one, other, pair) for pair in given):
         raise BadGiven("no tuple of at most 8 pairs of numbers")
-    tables = (one, other)
-    line = walk(tables, given, MOST_MET)
-    return table_over(tables, line, places_in(line)), tuple(line)
+    line = pairs_met(one, other, given, MOST_MET)
+    return pair_table(one, other, line), tuple(line)
 
 
 def flipped_over(table):

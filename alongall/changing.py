@@ -2,18 +2,24 @@
 
 from alongall.building import flipped_over
 from alongall.errors import BadNames, BadScope
-from alongall.least import least_of
+from alongall.least import least_of, walked
 from alongall.readers import need_reader
 from alongall.scopes import is_scope, letter_number, letter_row
 from alongall.words import is_name
 
 
-def widened_to(reader, scope):
-    """What widened tells, all being as it should be."""
+def widened_starts(names, starts, scope):
+    """The starts of the letters of a wider scope: of each that of what is left of it."""
+    return [starts[letter_number(names, letter)] for letter in letter_row(scope)]
+
+
+def widened_least(reader, scope):
+    """What widened tells of a least reader."""
     _, names, algebra, starts, taken = reader
-    # A letter has the start of what is left of it in the scope of the reader.
-    told = [starts[letter_number(names, letter)] for letter in letter_row(scope)]
-    return least_of(scope, algebra, told, taken)
+    if names == scope:
+        return reader
+    # The starts are the same ones in another order, so that only the numbers of elements may change.
+    return ("reader", scope) + walked(algebra, widened_starts(names, starts, scope), taken)
 
 
 def widened(reader, scope):
@@ -21,7 +27,8 @@ def widened(reader, scope):
     need_reader(reader)
     if not is_scope(scope) or not all(name in scope for name in reader[1]):
         raise BadScope("no scope with the names of the reader")
-    return widened_to(reader, scope)
+    _, names, algebra, starts, taken = reader
+    return least_of(scope, algebra, widened_starts(names, starts, scope), taken)
 
 
 def are_unlike_names(thing, many):

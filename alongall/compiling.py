@@ -1,10 +1,10 @@
 """Readers of formulas."""
 
 from alongall.atoms import atom_reader
-from alongall.changing import widened_to
-from alongall.combining import both_of, contrary_of, either_of
+from alongall.changing import widened_least
+from alongall.combining import both_least, contrary_least, either_least
 from alongall.formulas import JOINTS, need_measured
-from alongall.hiding import hidden_from
+from alongall.hiding import hidden_least
 from alongall.scopes import scope_of
 
 
@@ -13,9 +13,9 @@ def combined(formula):
     one = reader_below(formula[1])
     other = reader_below(formula[2])
     scope = scope_of(one[1] + other[1])
-    one = widened_to(one, scope)
-    other = widened_to(other, scope)
-    return both_of(one, other) if formula[0] == "both" else either_of(one, other)
+    one = widened_least(one, scope)
+    other = widened_least(other, scope)
+    return both_least(one, other) if formula[0] == "both" else either_least(one, other)
 
 
 def bound(formula):
@@ -25,8 +25,8 @@ def bound(formula):
     if name not in reader[1]:
         return reader
     if head == "some":
-        return hidden_from(reader, name)
-    return contrary_of(hidden_from(contrary_of(reader), name))
+        return hidden_least(reader, name)
+    return contrary_least(hidden_least(contrary_least(reader), name))
 
 
 def reader_below(formula):
@@ -35,7 +35,7 @@ def reader_below(formula):
     if head not in JOINTS:
         return atom_reader(formula)
     if head == "not":
-        return contrary_of(reader_below(formula[1]))
+        return contrary_least(reader_below(formula[1]))
     return combined(formula) if head in ("both", "either") else bound(formula)
 
 

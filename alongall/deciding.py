@@ -1,8 +1,8 @@
 """Whether formulas hold in words, what shows it, and whether one follows from another."""
 
 from alongall.algebras import worth_of
-from alongall.changing import widened_to
-from alongall.combining import both_of, contrary_of
+from alongall.changing import widened_least
+from alongall.combining import both_least, contrary_least
 from alongall.compiling import reader_below
 from alongall.errors import BadFormula, BadScope, NoName
 from alongall.formulas import is_bound, need_measured
@@ -69,4 +69,4 @@ def follows(one, other):
         raise BadScope("more than 3 free names together")
     first = reader_below(one)
     second = reader_below(other)
-    return least_taken(both_of(widened_to(first, scope), contrary_of(widened_to(second, scope))))
+    return least_taken(both_least(widened_least(first, scope), contrary_least(widened_least(second, scope))))

@@ -1,7 +1,7 @@
 """The reader of the words in which places can be given a name such that another reader takes them."""
 
 from alongall.errors import BadName
-from alongall.least import least_of
+from alongall.least import least_of, least_of_met
 from alongall.lots import lots_from
 from alongall.readers import need_reader
 from alongall.scopes import letter_number, letter_row
@@ -17,15 +17,16 @@ def lots_of_letters(scope, starts, name):
     return found
 
 
-def hidden_from(reader, name):
-    """What hidden tells, all being as it should be."""
+def hidden_least(reader, name):
+    """What hidden tells of a least reader, all being as it should be."""
     _, scope, algebra, starts, taken = reader
-    _, _, algebra, starts, taken = least_of(scope, algebra, starts, taken)
     given = lots_of_letters(scope, starts, name)
     lots, ways, mixes = lots_from(algebra, given)
     table = ("algebra", len(lots)) + ways + (mixes,)
     left = [number for number, lot in enumerate(lots) if any(element in taken for element in lot)]
-    return least_of(tuple([other for other in scope if other != name]), table, [lots.index(lot) for lot in given], left)
+    rest = tuple([other for other in scope if other != name])
+    # All lots that are come to are met: they come of the starts in just these ways.
+    return least_of_met(rest, table, [lots.index(lot) for lot in given], left)
 
 
 def is_one_of(names, thing):
@@ -38,4 +39,5 @@ def hidden(reader, name):
     need_reader(reader)
     if not is_one_of(reader[1], name):
         raise BadName("no name of the scope of the reader")
-    return hidden_from(reader, name)
+    _, scope, algebra, starts, taken = reader
+    return hidden_least(least_of(scope, algebra, starts, taken), name)

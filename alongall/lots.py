@@ -17,7 +17,11 @@ class Lots:
     def __init__(self, algebra, given):
         self.mixing = Mixing(algebra)
         self.lots = []
-        self.known = {}
+        # All lots of lots but (0,), by the sums of 2 ** (i - 1), i their numbers: what is in one of them, the family
+        # of the lots that have an element of each, and their mix.
+        self.wholes = [0]
+        self.families = [self.mixing.within((1 << self.mixing.many) - 1)]
+        self.mixes = [1]
         for lot in [1] + given:
             self.meet(lot)
 
@@ -28,13 +32,21 @@ class Lots:
             if len(self.lots) > MOST_LOTS:
                 raise TooMany(MOST_LOTS)
 
-    def mix_by(self, number):
-        """The mix of the lots told by a sum of 2 ** i, i their numbers."""
-        if number not in self.known:
-            # The lot (0,) beside others changes nothing: mix(P and 0) is mix(P).
-            kinds = [self.lots[i] for i in lot_in(number) if i > 0 or number == 1]
-            self.known[number] = self.mixing.mix_of(kinds)
-        return self.known[number]
+    def mix_with(self, lot):
+        """Mixes each lot of lots that has been mixed with one lot more."""
+        mixing = self.mixing
+        none_of_it = mixing.within(((1 << mixing.many) - 1) & ~lot)
+        wholes = [whole | lot for whole in self.wholes]
+        families = [family & ~none_of_it for family in self.families]
+        known = {}
+        for whole, family in zip(wholes, families):
+            # Only lots in the whole count.
+            key = (whole, family & mixing.within(whole))
+            if key not in known:
+                known[key] = mixing.closed(whole, mixing.mixes_in(key[1]))
+            self.mixes.append(known[key])
+        self.wholes = self.wholes + wholes
+        self.families = self.families + families
 
     def turn(self):
         """Whether one more turn brings new lots."""
@@ -46,23 +58,26 @@ class Lots:
             self.meet(self.mixing.on_of(lot))
         for lot in known:
             self.meet(self.mixing.back_of(lot))
-        for number in range(1, 1 << len(known)):
-            self.meet(self.mix_by(number))
+        while len(self.mixes) < 1 << (len(known) - 1):
+            old = len(self.mixes)
+            self.mix_with(known[old.bit_length()])
+            for lot in self.mixes[old:]:
+                self.meet(lot)
         return len(self.lots) > len(known)
-
-    def number(self, lot):
-        """The number of a lot."""
-        return self.lots.index(lot)
 
     def triple(self):
         """The triple of the lots, the ways and the mixes."""
         lots = self.lots
-        then = [tuple([self.number(self.mixing.products(one, other)) for other in lots]) for one in lots]
-        on = [self.number(self.mixing.on_of(lot)) for lot in lots]
-        back = [self.number(self.mixing.back_of(lot)) for lot in lots]
-        mixes = [self.number(self.mix_by(number)) for number in range(1, 1 << len(lots))]
+        numbers = {lot: number for number, lot in enumerate(lots)}
+        then = [tuple([numbers[self.mixing.products(one, other)] for other in lots]) for one in lots]
+        on = [numbers[self.mixing.on_of(lot)] for lot in lots]
+        back = [numbers[self.mixing.back_of(lot)] for lot in lots]
+        mixes = []
+        for lot in self.mixes:
+            # The lot (0,) beside others changes nothing: mix(P and 0) is mix(P).
+            mixes.extend([numbers[lot]] * 2)
         ways = (tuple(then), tuple(on), tuple(back))
-        return tuple([lot_in(lot) for lot in lots]), ways, (0,) + tuple(mixes)
+        return tuple([lot_in(lot) for lot in lots]), ways, tuple(mixes)
 
 
 def lots_from(algebra, given):

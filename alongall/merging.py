@@ -4,7 +4,7 @@ from alongall.algebras import need_algebra
 from alongall.errors import BadLot, BadMerging, BadPairs
 from alongall.least import fallen_together
 from alongall.plain import is_ascending, is_below, is_lot_below
-from alongall.turns import kinds_by_lot, numbered, turn_rows
+from alongall.turns import kinds_by_lot, numbered, rows_alone
 
 MOST_PAIRS = 20
 
@@ -47,15 +47,10 @@ def is_kept(rows, kinds):
     return True
 
 
-def rows_of(algebra):
-    """What the turns make of each element, unlike rows once."""
-    return [row for row, turn in turn_rows(algebra)]
-
-
 def is_merging_of(algebra, thing):
     """Whether any value is a merging of what is an algebra."""
     many = algebra[1]
-    return is_split(many, thing) and is_kept(rows_of(algebra), kinds_of_lots(many, thing))
+    return is_split(many, thing) and is_kept(rows_alone(algebra), kinds_of_lots(many, thing))
 
 
 def is_merging(algebra, thing):
@@ -83,7 +78,7 @@ def all_kinds(many):
 def mergings(algebra):
     """The ascending tuple of all mergings."""
     need_algebra(algebra)
-    rows = rows_of(algebra)
+    rows = rows_alone(algebra)
     return tuple(sorted([lots_of_kinds(kinds) for kinds in all_kinds(algebra[1]) if is_kept(rows, kinds)]))
 
 
@@ -118,7 +113,7 @@ def least_merging(algebra, pairs):
     """The merging with the most lots that has both of each pair in one lot."""
     need_algebra(algebra)
     need_pairs(algebra, pairs)
-    return lots_of_kinds(kinds_joining(rows_of(algebra), algebra[1], pairs))
+    return lots_of_kinds(kinds_joining(rows_alone(algebra), algebra[1], pairs))
 
 
 def need_lot_or_none(algebra, lot):

@@ -2,14 +2,14 @@
 
 from alongall.algebras import worth_of
 from alongall.building import is_pair_of
-from alongall.changing import widened_to
+from alongall.changing import widened_least
 from alongall.compiling import reader_below
 from alongall.errors import BadFormula, BadScope, TooMany
 from alongall.formulas import MOST_FREE, MOST_NODES, measured
 from alongall.plain import head_of, is_ascending
 from alongall.readers import need_readers
 from alongall.scopes import scope_of
-from alongall.walks import places_in, round_from, table_over, walk
+from alongall.walks import codes_of, mix_of_code, pair_table, pairs_met, places_in, then_of_pairs
 from alongall.weaves import is_weave
 from alongall.weighed import first_of, weighed
 
@@ -21,15 +21,23 @@ def unlike_pairs(one, other, pairs):
     return [(a, b) for a, b in pairs if (a in one[4]) != (b in other[4])]
 
 
-def pairs_met(one, other):
+def tied_pairs(one, other):
     """The pairs met from those of the starts, in order; TooMany(12)."""
-    return walk((one[2], other[2]), list(zip(one[3], other[3])), MOST_TIED)
+    return pairs_met(one[2], other[2], list(zip(one[3], other[3])), MOST_TIED)
+
+
+def made_of(one, other, pairs):
+    """What then, on, back and mix make of some pairs of elements of two algebras."""
+    found = [then_of_pairs(one, other, first, second) for first in pairs for second in pairs]
+    found.extend([(one[3][a], other[3][b]) for a, b in pairs])
+    found.extend([(one[4][a], other[4][b]) for a, b in pairs])
+    return found + [mix_of_code(one, other, code) for code in codes_of(pairs)]
 
 
 def tie(one, other):
     """The tie of fewest pairs, None if there is none."""
     need_readers(one, other)
-    met = pairs_met(one, other)
+    met = tied_pairs(one, other)
     return None if len(unlike_pairs(one, other, met)) > 0 else tuple(sorted(met))
 
 
@@ -45,7 +53,7 @@ def is_tie_of(one, other, thing):
         return False
     if len(unlike_pairs(one, other, thing)) > 0:
         return False
-    return all(pair in thing for pair in round_from((one[2], other[2]), thing))
+    return all(pair in thing for pair in made_of(one[2], other[2], thing))
 
 
 def is_tie(one, other, thing):
@@ -69,13 +77,13 @@ def both_readers(one, other):
         raise BadScope("more than 3 free names together")
     first = reader_below(one)
     second = reader_below(other)
-    return widened_to(first, scope), widened_to(second, scope)
+    return widened_least(first, scope), widened_least(second, scope)
 
 
 def parting_weave(one, other, met, unlike):
     """The least weave whose pair of values is one of the unlike ones; met are the pairs met."""
     places = places_in(met)
-    table = table_over((one[2], other[2]), met, places)
+    table = pair_table(one[2], other[2], met)
     found = weighed(table, one[1], [places[pair] for pair in zip(one[3], other[3])], "any")
     return first_of(found, [places[pair] for pair in unlike])
 
@@ -83,7 +91,7 @@ def parting_weave(one, other, met, unlike):
 def sameness(one, other):
     """("same", tie) if both formulas hold in the same words, otherwise ("parted", weave)."""
     first, second = both_readers(one, other)
-    met = pairs_met(first, second)
+    met = tied_pairs(first, second)
     unlike = unlike_pairs(first, second, met)
     if len(unlike) == 0:
         return "same", tuple(sorted(met))

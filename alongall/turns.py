@@ -18,20 +18,34 @@ def turned_by(table, turn, element):
     return mix[mask_of(turn[1]) | 1 << element]
 
 
+def mix_rows(table):
+    """What the mix of a lot and each element is, for the lots without 0, by the sums of 2 ** (a - 1)."""
+    # 0 beside others changes no mix, so that lots with it tell nothing new.
+    mix = table[5][::2]
+    columns = [mix]
+    for a in range(table[1] - 1):
+        bit = 1 << a
+        column = []
+        for start in range(0, len(mix), 2 * bit):
+            row = mix[start + bit:start + 2 * bit]
+            column.extend(row + row)
+        columns.append(column)
+    return list(zip(*columns))
+
+
 def turn_rows(table):
     """Pairs (row, turn): row what the turn makes of each element; of the turns with one row the first."""
-    _, many, then, on, back, mix = table
+    _, many, then, on, back, _ = table
     found = {}
     for c in range(many):
         found.setdefault(then[c], ("left", c))
-    for c in range(many):
-        found.setdefault(tuple([then[a][c] for a in range(many)]), ("right", c))
+    for c, row in enumerate(list(zip(*then))):
+        found.setdefault(row, ("right", c))
     found.setdefault(on, ("on",))
     found.setdefault(back, ("back",))
-    for mask in range(1 << many):
-        row = tuple([mix[mask | 1 << a] for a in range(many)])
+    for number, row in enumerate(mix_rows(table)):
         if row not in found:
-            found[row] = ("mix", lot_in(mask))
+            found[row] = ("mix", lot_in(2 * number))
     return list(found.items())
 
 
@@ -43,17 +57,24 @@ def numbered(signs):
     return [known[sign] for sign in signs]
 
 
-def kinds_kept(table, kinds):
-    """Kinds of elements, as few as can be, such that each turn keeps them and each lies in one of kinds."""
-    rows = [row for row, turn in turn_rows(table)]
+def kinds_kept(rows, kinds):
+    """Kinds of elements, as few as can be, such that each row of turns keeps them and each lies in one of kinds."""
     kinds = numbered(kinds)
     while True:
-        finer = numbered([tuple([kinds[a]] + [kinds[row[a]] for row in rows]) for a in range(len(kinds))])
+        columns = [kinds] + [[kinds[a] for a in row] for row in rows]
+        finer = numbered(list(zip(*columns)))
         if finer == kinds:
             return kinds
         kinds = finer
 
 
+def rows_alone(table):
+    """What the turns make of each element, unlike rows once."""
+    _, _, then, on, back, _ = table
+    rows = {row: True for row in list(then) + list(zip(*then)) + [on, back] + mix_rows(table)}
+    return list(rows)
+
+
 def kinds_by_lot(table, lot):
     """The kinds of kinds_kept for a lot and all that is not in it."""
-    return kinds_kept(table, [a in lot for a in range(table[1])])
+    return kinds_kept(rows_alone(table), [a in lot for a in range(table[1])])

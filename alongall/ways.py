@@ -6,7 +6,7 @@ from alongall.errors import BadGiven
 from alongall.flaws import SEATS, seats_of, speaks_of
 from alongall.making import mix_with
 from alongall.plain import is_row_below
-from alongall.walks import walk
+from alongall.walks import numbers_met
 from alongall.weaves import is_weave
 
 NONE = ("none",)
@@ -34,7 +34,7 @@ def need_makers(one, other, given):
     need_algebra(other)
     if not is_given(given) or not all(is_pair_of(one, other, pair) for pair in given):
         raise BadGiven("no tuple of at most 8 pairs")
-    if len(walk((one,), [(a,) for a, b in given], one[1])) < one[1]:
+    if len(numbers_met(one, [a for a, b in given])) < one[1]:
         raise BadGiven("not all is met")
 
 
