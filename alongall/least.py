@@ -35,7 +35,7 @@ def need_few(kinds):
 
 
 def least_of_met(scope, table, starts, taken):
-    """The least reader of words whose values in a table, perhaps a large one, are taken; all in it is met; TooMany(8)."""
+    """The least reader of words whose values in a table, all of which are met, are taken; TooMany(8)."""
     kinds = kinds_by_lot(table, taken)
     need_few(kinds)
     if max(kinds) + 1 < table[1]:
