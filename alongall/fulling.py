@@ -86,7 +86,7 @@ class Full:
         """The value of the word of one full letter."""
         found = []
         for at, (between, goal) in enumerate(self.truths):
-            sees = is_true(between, letter, bits) + 2 * is_true(goal, letter, bits)
+            sees = (1 if is_true(between, letter, bits) else 0) + (2 if is_true(goal, letter, bits) else 0)
             # The look is due at the only place just if it is due beside the word.
             found.append((sees, 2 if bits >> at & 1 else 1))
         return tuple(found)

@@ -57,17 +57,17 @@ class Going:
         """Meets all that comes of what is told so far."""
         _, _, then, on, back, mix = self.one
         _, _, then_too, on_too, back_too, mix_too = self.other
-        known = list(self.images.items())
-        for a, (b, weave) in known:
-            for c, (d, more) in known:
+        known = [(a, image[0], image[1]) for a, image in self.images.items()]
+        for a, b, weave in known:
+            for c, d, more in known:
                 self.meet(then[a][c], then_too[b][d], ("then", weave, more))
             self.meet(on[a], on_too[b], ("on", weave))
             self.meet(back[a], back_too[b], ("back", weave))
         for mask in range(1, 1 << len(known)):
             lot = [known[at] for at in lot_in(mask)]
-            element = mix[mask_of([a for a, _ in lot])]
-            image = mix_too[mask_of([b for _, (b, _) in lot])]
-            self.meet(element, image, mix_with([weave for _, (_, weave) in lot]))
+            element = mix[mask_of([told[0] for told in lot])]
+            image = mix_too[mask_of([told[1] for told in lot])]
+            self.meet(element, image, mix_with([told[2] for told in lot]))
 
     def go(self, given):
         """Goes on till nothing new is met, or there is a clash."""
