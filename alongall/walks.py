@@ -1,7 +1,8 @@
 """Walks: what comes of some pairs of elements of two algebras, in the order in which it is met.
 
-What is done to pairs, by then, on, back and mix, is done in both algebras. A lot of pairs is told by a code: the sum of 2 ** a for its first
-elements, and of 2 ** (b + 16) for its second ones, 0 left out, which changes no mix.
+What is done to pairs, by then, on, back and mix, is done in both algebras. A lot of pairs is told by
+a code: the sum of 2 ** a for its first elements, and of 2 ** (b + 16) for its second ones, 0 left
+out, which changes no mix.
 """
 
 from alongall.errors import TooMany
