@@ -17,6 +17,8 @@ class Faces:
         self.rows = [[()] for _ in range(most + 1)]
         self.numbers = [{(): 0} for _ in range(most + 1)]
         self.known = {}
+        # For each depth and face what then of it and others is.
+        self.thens = [[{}] for _ in range(most + 1)]
 
     def number(self, depth, row):
         """The face with these triples, which may stand in it several times, in any order."""
@@ -27,6 +29,7 @@ class Faces:
         if row not in numbers:
             numbers[row] = len(numbers)
             self.rows[depth].append(row)
+            self.thens[depth].append({})
         return numbers[row]
 
     def letter(self, depth, letter):
@@ -61,22 +64,24 @@ class Faces:
             return other
         if other == 0:
             return one
-        key = ("then", depth, one, other)
-        if key not in self.known:
+        known = self.thens[depth][one]
+        if other not in known:
             ahead = self.one_less(depth, one)
             behind = self.one_less(depth, other)
             row = self.shifted(depth, 0, self.rows[depth][one], behind)
             row.extend(self.shifted(depth, ahead, self.rows[depth][other], 0))
-            self.known[key] = self.number(depth, row)
-        return self.known[key]
+            known[other] = self.number(depth, row)
+        return known[other]
 
     def shifted(self, depth, ahead, row, behind):
         """Triples of a depth with more ahead of them, and behind them."""
         below = depth - 1
         if ahead != 0:
-            row = [(self.then(below, ahead, l), c, r) for l, c, r in row]
+            known = self.thens[below][ahead]
+            row = [(known[l] if l in known else self.then(below, ahead, l), c, r) for l, c, r in row]
         if behind != 0:
-            row = [(l, c, self.then(below, r, behind)) for l, c, r in row]
+            thens = self.thens[below]
+            row = [(l, c, thens[r][behind] if behind in thens[r] else self.then(below, r, behind)) for l, c, r in row]
         return list(row)
 
     def powers(self, depth, face):

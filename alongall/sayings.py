@@ -3,6 +3,7 @@
 from alongall.errors import BadDepth, BadLoose, TooMany
 from alongall.faces import Faces
 from alongall.facts import Facts, Speaking, new_names
+from alongall.narrowing import narrowed
 from alongall.roundforms import MOST_NODES, forms_in, loose_in, names_kept_apart, need_rounds, rounds_in
 from alongall.spots import need_spot
 from alongall.telling import Telling
@@ -13,10 +14,11 @@ MOST_ROUNDS = 6
 MOST_TRIES = 8
 
 
-def faces_for(formula):
-    """Faces as deep as a rounds formula has rounds, of its marks alone."""
+def telling_of(formula):
+    """How a rounds formula is told, and how many rounds it takes, which are no more than it has."""
     _, marks = names_kept_apart(formula)
-    return Faces(rounds_in(formula), marks)
+    told = narrowed(formula, True)
+    return Telling(Faces(told[2], marks), told), told[2]
 
 
 def so(scope, formula, weave):
@@ -25,12 +27,11 @@ def so(scope, formula, weave):
     if loose_in(formula) != ():
         raise BadLoose("it has free names")
     need_weave(scope, weave)
-    rounds = rounds_in(formula)
-    if rounds > MOST_ROUNDS:
+    if rounds_in(formula) > MOST_ROUNDS:
         raise BadDepth("too many rounds")
-    faces = faces_for(formula)
-    telling = Telling(faces, formula)
-    return telling.holds(telling.root, (rounds, (faces.of_weave(rounds, weave),), (), ()))
+    telling, rounds = telling_of(formula)
+    face = telling.faces.of_weave(rounds, weave)
+    return telling.holds(telling.root, (rounds, (face,), (), ()))
 
 
 def so_at(scope, formula, weave, spot):
@@ -40,12 +41,10 @@ def so_at(scope, formula, weave, spot):
     if len(free) != 1:
         raise BadLoose("it has not just one free name")
     need_spot(scope, weave, spot)
-    rounds = rounds_in(formula)
-    if rounds > MOST_ROUNDS - 1:
+    if rounds_in(formula) > MOST_ROUNDS - 1:
         raise BadDepth("too many rounds")
-    faces = faces_for(formula)
-    telling = Telling(faces, formula)
-    ahead, letter, behind = faces.around(rounds, weave, spot)
+    telling, rounds = telling_of(formula)
+    ahead, letter, behind = telling.faces.around(rounds, weave, spot)
     return telling.holds(telling.root, (rounds, (ahead, behind), (letter,), ((free[0], 0),)))
 
 

@@ -5,28 +5,33 @@ in order, the faces, of a depth, of what is ahead of the first one, between them
 one, and the pairs of a name and the number of the place that it stands for.
 """
 
-from alongall.roundforms import ATOM_HEADS, BINDERS, forms_in, loose_in, rounds_in
+from alongall.roundforms import BINDERS
 
 
 class Telling:
-    """Faces, the formulas in a rounds formula, each with its free names and its rounds, and what is known of them."""
+    """Faces, the formulas in a told formula by their numbers, and what is known of them."""
 
-    def __init__(self, faces, formula):
+    def __init__(self, faces, told):
         self.faces = faces
         self.knots = []
-        self.root = self.spread(formula)
+        self.root = self.spread(told)
         self.known = {}
 
-    def spread(self, formula):
-        """The number of a formula among the knots."""
-        parts = [self.spread(part) for part in forms_in(formula)]
-        self.knots.append((formula, parts, loose_in(formula), rounds_in(formula)))
+    def spread(self, told):
+        """The number of a told formula among the knots."""
+        head, names, rounds, data = told
+        parts = []
+        if head in BINDERS:
+            parts = [self.spread(data[1])]
+        elif head in ("both", "either"):
+            parts = [self.spread(part) for part in data]
+        self.knots.append((head, names, rounds, data, parts))
         return len(self.knots) - 1
 
     def trimmed(self, at, standing):
         """The standing with no more in it than the formula of a knot looks at."""
         depth, faces, letters, seats = standing
-        _, _, names, deep = self.knots[at]
+        _, names, deep, _, _ = self.knots[at]
         seats = [(name, place) for name, place in seats if name in names]
         places = sorted({place for name, place in seats})
         row = [self.faces.lowered(depth, face, deep) for face in faces]
@@ -37,36 +42,32 @@ class Telling:
             else:
                 between = self.faces.then(deep, self.faces.letter(deep, letter), row[place + 1])
                 kept[-1] = self.faces.then(deep, kept[-1], between)
-        told = tuple([(name, places.index(place)) for name, place in seats])
-        return deep, tuple(kept), tuple([letters[place] for place in places]), told
+        moved = tuple([(name, places.index(place)) for name, place in seats])
+        return deep, tuple(kept), tuple([letters[place] for place in places]), moved
 
     def holds(self, at, standing):
         """Whether the formula of a knot holds in a standing."""
         standing = self.trimmed(at, standing)
         key = (at, standing)
         if key not in self.known:
-            self.known[key] = self.told(at, standing)
+            self.known[key] = self.holds_anew(at, standing)
         return self.known[key]
 
-    def told(self, at, standing):
+    def holds_anew(self, at, standing):
         """What holds keeps."""
-        formula, parts, _, _ = self.knots[at]
-        head = formula[0]
-        if head in ATOM_HEADS:
-            return atom_holds(formula, standing)
+        head, _, _, data, parts = self.knots[at]
+        if head == "atom":
+            return atom_holds(data[1], standing) == data[0]
+        if head == "places":
+            # The face of no place is 0.
+            return (standing[1][0] != 0) == data
         if head in BINDERS:
-            return self.bound_holds(head, formula[1], parts[0], standing)
-        if head == "not":
-            return not self.holds(parts[0], standing)
-        # The second part is looked at only if it counts.
-        if self.holds(parts[0], standing) == (head == "either"):
-            return head == "either"
-        return self.holds(parts[1], standing)
-
-    def bound_holds(self, head, name, part, standing):
-        """Whether a formula holds for some place as a name, or for all of them."""
-        wanted = head == "some"
-        for one in self.picks(name, standing):
+            wanted = head == "some"
+            rows = [(parts[0], one) for one in self.picks(data[0], standing)]
+        else:
+            wanted = head == "either"
+            rows = [(part, standing) for part in parts]
+        for part, one in rows:
             if self.holds(part, one) == wanted:
                 return wanted
         return not wanted
