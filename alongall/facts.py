@@ -42,7 +42,7 @@ class Facts:
                 found.append((-len(covered), len(unlike), 0, triple, unlike))
         theirs = []
         for other in others:
-            theirs.extend([triple for triple in self.faces.rows[depth][other] if triple not in mine])
+            theirs.extend([more for more in self.faces.rows[depth][other] if more not in mine])
         for triple in sorted(set(theirs)):
             covered = [other for other in others if triple in self.faces.rows[depth][other]]
             unlike = self.alike_letters(depth, [one], triple[1])

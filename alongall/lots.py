@@ -21,7 +21,7 @@ class Lots:
         # of the lots that have an element of each, and their mix.
         self.wholes = [0]
         self.families = [self.mixing.within((1 << self.mixing.many) - 1)]
-        self.mixes = [1]
+        self.mixes_told = [1]
         for lot in [1] + given:
             self.meet(lot)
 
@@ -44,7 +44,7 @@ class Lots:
             key = (whole, family & mixing.within(whole))
             if key not in known:
                 known[key] = mixing.closed(whole, mixing.mixes_in(key[1]))
-            self.mixes.append(known[key])
+            self.mixes_told.append(known[key])
         self.wholes = self.wholes + wholes
         self.families = self.families + families
 
@@ -58,10 +58,10 @@ class Lots:
             self.meet(self.mixing.on_of(lot))
         for lot in known:
             self.meet(self.mixing.back_of(lot))
-        while len(self.mixes) < 1 << (len(known) - 1):
-            old = len(self.mixes)
+        while len(self.mixes_told) < 1 << (len(known) - 1):
+            old = len(self.mixes_told)
             self.mix_with(known[old.bit_length()])
-            for lot in self.mixes[old:]:
+            for lot in self.mixes_told[old:]:
                 self.meet(lot)
         return len(self.lots) > len(known)
 
@@ -73,7 +73,7 @@ class Lots:
         on = [numbers[self.mixing.on_of(lot)] for lot in lots]
         back = [numbers[self.mixing.back_of(lot)] for lot in lots]
         mixes = []
-        for lot in self.mixes:
+        for lot in self.mixes_told:
             # The lot (0,) beside others changes nothing: mix(P and 0) is mix(P).
             mixes.extend([numbers[lot]] * 2)
         ways = (tuple(then), tuple(on), tuple(back))

@@ -47,7 +47,7 @@ class Walk:
         self.line = []
         self.places = {}
         self.codes = [0]
-        self.mixed = {0: True}
+        self.known = {0: True}
 
     def meet(self, pair):
         """Meets a pair; TooMany for more than most."""
@@ -96,12 +96,12 @@ class Walk:
 
     def meet_mixes(self, pairs):
         """Meets the mixes of all lots with one of some pairs, and pairs ahead of it."""
-        mixed = self.mixed
+        known = self.known
         for pair in pairs:
             bit = code_of(pair)
             for code in list(self.codes):
-                if code | bit not in mixed:
-                    mixed[code | bit] = True
+                if code | bit not in known:
+                    known[code | bit] = True
                     self.codes.append(code | bit)
                     self.meet(mix_of_code(self.one, self.other, code | bit))
 

@@ -151,6 +151,15 @@ class Alike(TestCase):
                     self.assertIs(alike_to(scope, one, other, depth), same)
                     self.assertEqual(same, told is None or depth < told)
 
+    def test_short_words_at_each_depth(self):
+        for scope, longest in (((), 6), (("x",), 4)):
+            rows = [letters for many in range(longest + 1) for letters in product(letters_by_hand(scope), repeat=many)]
+            for one, other in Random(590).sample(list(product(rows, repeat=2)), 40):
+                first, second = written(scope, one), written(scope, other)
+                told = [row_view(one, depth) == row_view(other, depth) for depth in range(7)]
+                self.assertEqual([alike_to(scope, first, second, depth) for depth in range(7)], told)
+                self.assertEqual(least_depth(scope, first, second, 6), told.index(False) if False in told else None)
+
     def test_put_in_the_place_of_one_another(self):
         random = Random(586)
         pairs = 0
