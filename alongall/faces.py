@@ -1,7 +1,9 @@
 """Views of words told by numbers, their faces: at each depth one number for each view.
 
-A face stands for a row of triples (l, c, r), l and r faces of one depth less, c a letter. What is
-made of words has a face that comes of the faces of its parts.
+A face stands for the triples (l, c, r) of a view, l and r faces of one depth less, c a letter. They
+are kept by what is behind: for each r a front, the pairs (l, c) beside it, told by a number too.
+Fronts stand in many faces, so that what is done to them is worked out once. What is made of words
+has a face that comes of the faces of its parts.
 """
 
 from alongall.spots import part_under
@@ -14,17 +16,33 @@ class Faces:
     def __init__(self, most, names):
         # Marks that are none of these names are not looked at.
         self.names = names
-        self.rows = [[()] for _ in range(most + 1)]
-        self.numbers = [{(): 0} for _ in range(most + 1)]
+        many = most + 1
+        # For each depth and face its pairs (r, front); the face of these pairs; what then of it and others is.
+        self.rows = [[()] for _ in range(many)]
+        self.numbers = [{(): 0} for _ in range(many)]
+        self.thens = [[{}] for _ in range(many)]
+        # For each depth and front its pairs (l, c); the front of these pairs; what it is with more ahead.
+        self.fronts = [[()] for _ in range(many)]
+        self.front_numbers = [{(): 0} for _ in range(many)]
+        self.shifts = [[{}] for _ in range(many)]
         self.known = {}
-        # For each depth and face what then of it and others is.
-        self.thens = [[{}] for _ in range(most + 1)]
 
-    def number(self, depth, row):
-        """The face with these triples, which may stand in it several times, in any order."""
-        if depth == 0:
-            return 0
-        row = tuple(sorted(set(row)))
+    def front(self, depth, pairs):
+        """The front of some pairs, which may come several times, in any order."""
+        pairs = tuple(sorted(set(pairs)))
+        numbers = self.front_numbers[depth]
+        if pairs not in numbers:
+            numbers[pairs] = len(numbers)
+            self.fronts[depth].append(pairs)
+            self.shifts[depth].append({})
+        return numbers[pairs]
+
+    def number(self, depth, rows):
+        """The face of pairs (r, front); fronts of one r are put together."""
+        found = {}
+        for r, front in rows:
+            found[r] = self.united(depth, found[r], front) if r in found else front
+        row = tuple(sorted(found.items()))
         numbers = self.numbers[depth]
         if row not in numbers:
             numbers[row] = len(numbers)
@@ -32,13 +50,32 @@ class Faces:
             self.thens[depth].append({})
         return numbers[row]
 
-    def letter(self, depth, letter):
-        """The face of one place."""
-        return self.number(depth, [(0, self.seen_of(letter), 0)])
+    def united(self, depth, one, other):
+        """The front of the pairs of two fronts."""
+        if one == other:
+            return one
+        key = ("united", depth, min(one, other), max(one, other))
+        if key not in self.known:
+            self.known[key] = self.front(depth, self.fronts[depth][one] + self.fronts[depth][other])
+        return self.known[key]
 
-    def seen_of(self, letter):
-        """What is looked at of a letter."""
-        return tuple([name for name in letter if name in self.names])
+    def shifted(self, depth, ahead, front):
+        """The front with more ahead of all of its places."""
+        if ahead == 0:
+            return front
+        known = self.shifts[depth][front]
+        if ahead not in known:
+            pairs = self.fronts[depth][front]
+            known[ahead] = self.front(depth, [(self.then(depth - 1, ahead, l), c) for l, c in pairs])
+        return known[ahead]
+
+    def front_less(self, depth, front):
+        """The front of one depth less."""
+        key = ("front", depth, front)
+        if key not in self.known:
+            pairs = self.fronts[depth][front]
+            self.known[key] = self.front(depth - 1, [(self.one_less(depth - 1, l), c) for l, c in pairs])
+        return self.known[key]
 
     def one_less(self, depth, face):
         """The face of one depth less of the words of a face."""
@@ -47,7 +84,7 @@ class Faces:
         key = ("less", depth, face)
         if key not in self.known:
             row = self.rows[depth][face]
-            less = [(self.one_less(depth - 1, l), c, self.one_less(depth - 1, r)) for l, c, r in row]
+            less = [(self.one_less(depth - 1, r), self.front_less(depth, front)) for r, front in row]
             self.known[key] = self.number(depth - 1, less)
         return self.known[key]
 
@@ -58,6 +95,21 @@ class Faces:
             depth = depth - 1
         return face
 
+    def seen_of(self, letter):
+        """What is looked at of a letter."""
+        return tuple([name for name in letter if name in self.names])
+
+    def letter(self, depth, letter):
+        """The face of one place."""
+        if depth == 0:
+            return 0
+        return self.number(depth, [(0, self.front(depth, [(0, self.seen_of(letter))]))])
+
+    def around_row(self, depth, ahead, face, behind):
+        """The pairs of a face with more ahead of all places, and behind them."""
+        row = self.rows[depth][face]
+        return [(self.then(depth - 1, r, behind), self.shifted(depth, ahead, front)) for r, front in row]
+
     def then(self, depth, one, other):
         """The face of words one behind the other."""
         if one == 0 or depth == 0:
@@ -66,23 +118,10 @@ class Faces:
             return one
         known = self.thens[depth][one]
         if other not in known:
-            ahead = self.one_less(depth, one)
-            behind = self.one_less(depth, other)
-            row = self.shifted(depth, 0, self.rows[depth][one], behind)
-            row.extend(self.shifted(depth, ahead, self.rows[depth][other], 0))
+            row = self.around_row(depth, 0, one, self.one_less(depth, other))
+            row.extend(self.around_row(depth, self.one_less(depth, one), other, 0))
             known[other] = self.number(depth, row)
         return known[other]
-
-    def shifted(self, depth, ahead, row, behind):
-        """Triples of a depth with more ahead of them, and behind them."""
-        below = depth - 1
-        if ahead != 0:
-            known = self.thens[below][ahead]
-            row = [(known[l] if l in known else self.then(below, ahead, l), c, r) for l, c, r in row]
-        if behind != 0:
-            thens = self.thens[below]
-            row = [(l, c, thens[r][behind] if behind in thens[r] else self.then(below, r, behind)) for l, c, r in row]
-        return list(row)
 
     def powers(self, depth, face):
         """The faces of no word of a face, of one, of two .. one behind the other, up to the last new one."""
@@ -111,9 +150,9 @@ class Faces:
             row = []
             for power in self.powers(depth - 1, below):
                 if head == "on":
-                    row.extend(self.shifted(depth, power, self.rows[depth][face], whole))
+                    row.extend(self.around_row(depth, power, face, whole))
                 else:
-                    row.extend(self.shifted(depth, whole, self.rows[depth][face], power))
+                    row.extend(self.around_row(depth, whole, face, power))
             self.known[key] = self.number(depth, row)
         return self.known[key]
 
@@ -127,7 +166,7 @@ class Faces:
             whole = self.mix(depth - 1, [self.one_less(depth, face) for face in faces])
             row = []
             for face in faces:
-                row.extend(self.shifted(depth, whole, self.rows[depth][face], whole))
+                row.extend(self.around_row(depth, whole, face, whole))
             self.known[key] = self.number(depth, row)
         return self.known[key]
 
@@ -164,11 +203,21 @@ class Faces:
             more = [copies, whole] if head == "on" else [whole, copies]
         return self.then(depth, more[0], ahead), letter, self.then(depth, behind, more[1])
 
+    def triples(self, depth, face):
+        """The triples of a face, in order."""
+        key = ("triples", depth, face)
+        if key not in self.known:
+            found = []
+            for r, front in self.rows[depth][face]:
+                found.extend([(l, c, r) for l, c in self.fronts[depth][front]])
+            self.known[key] = tuple(sorted(found))
+        return self.known[key]
+
     def view(self, depth, face):
         """The view that a face stands for."""
         key = ("view", depth, face)
         if key not in self.known:
-            row = self.rows[depth][face]
-            triples = [(self.view(depth - 1, l), c, self.view(depth - 1, r)) for l, c, r in row]
-            self.known[key] = tuple(sorted(triples))
+            triples = self.triples(depth, face)
+            told = [(self.view(depth - 1, l), c, self.view(depth - 1, r)) for l, c, r in triples]
+            self.known[key] = tuple(sorted(told))
         return self.known[key]

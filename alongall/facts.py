@@ -28,23 +28,23 @@ class Facts:
         """The triples with a letter in faces, each once."""
         found = []
         for face in faces:
-            found.extend([triple for triple in self.faces.rows[depth][face] if triple[1] == letter])
+            found.extend([triple for triple in self.faces.triples(depth, face) if triple[1] == letter])
         return sorted(set(found))
 
     def candidates(self, depth, one, others):
         """What may be said of a face, not of others, the best first: the triple, and what it must be unlike."""
         found = []
-        mine = self.faces.rows[depth][one]
+        mine = self.faces.triples(depth, one)
         for triple in mine:
-            covered = [other for other in others if triple not in self.faces.rows[depth][other]]
+            covered = [other for other in others if triple not in self.faces.triples(depth, other)]
             if len(covered) > 0:
                 unlike = self.alike_letters(depth, covered, triple[1])
                 found.append((-len(covered), len(unlike), 0, triple, unlike))
         theirs = []
         for other in others:
-            theirs.extend([more for more in self.faces.rows[depth][other] if more not in mine])
+            theirs.extend([more for more in self.faces.triples(depth, other) if more not in mine])
         for triple in sorted(set(theirs)):
-            covered = [other for other in others if triple in self.faces.rows[depth][other]]
+            covered = [other for other in others if triple in self.faces.triples(depth, other)]
             unlike = self.alike_letters(depth, [one], triple[1])
             found.append((-len(covered), len(unlike), 1, triple, unlike))
         return sorted(found)
@@ -64,7 +64,7 @@ class Facts:
             best = self.candidates(depth, one, left)[0]
             facts.append(self.fact(depth, best))
             has = best[2] == 1
-            left = [other for other in left if (best[3] in self.faces.rows[depth][other]) != has]
+            left = [other for other in left if (best[3] in self.faces.triples(depth, other)) != has]
         return facts
 
 

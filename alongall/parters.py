@@ -24,13 +24,13 @@ class Parting:
     def in_order(self, depth, face):
         """The triples of a face, in the order of those of its view, each beside that of the view."""
         found = []
-        for l, c, r in self.faces.rows[depth][face]:
+        for l, c, r in self.faces.triples(depth, face):
             found.append(((self.faces.view(depth - 1, l), c, self.faces.view(depth - 1, r)), (l, c, r)))
         return sorted(found)
 
     def choices(self, depth, one, other):
         """What the parter may pick for good: how many replies there are, the side, the triple."""
-        rows = (self.faces.rows[depth][one], self.faces.rows[depth][other])
+        rows = (self.faces.triples(depth, one), self.faces.triples(depth, other))
         found = []
         for side in range(2):
             for triple in rows[side]:

@@ -81,7 +81,7 @@ class Telling:
         less = [self.faces.one_less(depth, face) for face in faces]
         for at, face in enumerate(faces):
             moved = [(other, place + 1 if place >= at else place) for other, place in seats]
-            for l, c, r in self.faces.rows[depth][face]:
+            for l, c, r in self.faces.triples(depth, face):
                 row = tuple(less[:at] + [l, r] + less[at + 1:])
                 found.append((depth - 1, row, letters[:at] + (c,) + letters[at:], tuple(moved + [(name, at)])))
         return found

@@ -2,8 +2,9 @@
 
 from alongall.errors import BadDepth
 from alongall.faces import Faces
+from alongall.making import turned_weave
 from alongall.plain import is_below
-from alongall.weaves import need_weave
+from alongall.weaves import need_weave, parts_of
 
 MOST_VIEW = 3
 MOST_ALIKE = 6
@@ -29,10 +30,19 @@ def view(scope, weave, depth):
     return faces.view(depth, faces.of_weave(depth, weave))
 
 
+def head_count(head, weave):
+    """How often a head stands in a weave."""
+    return (1 if weave[0] == head else 0) + sum(head_count(head, part) for part in parts_of(weave))
+
+
 def unlike_from(scope, one, other, most):
     """The least depth, at most most, at which two words are not alike; None if there is none."""
     if one == other:
         return None
+    # Words that are turned are alike just as far; faces are kept by what is behind, of which on leaves less.
+    if head_count("on", one) + head_count("on", other) < head_count("back", one) + head_count("back", other):
+        one = turned_weave(one)
+        other = turned_weave(other)
     faces = Faces(most, scope)
     # What is unlike at a depth is so at each greater one, where views are much larger.
     for depth in range(most + 1):
