@@ -59,7 +59,7 @@ class FullTable:
         full = self.full
         nodes, form = self.waiting.pop(worth)
         self.found[worth] = (nodes, self.weave(form))
-        for other, (more, _) in self.found.items():
+        for other, (more, _) in list(self.found.items()):
             self.offer(full.then(worth, other), 1 + nodes + more, ("then", (worth, other)))
             self.offer(full.then(other, worth), 1 + nodes + more, ("then", (other, worth)))
         self.offer(full.on(worth), 1 + nodes, ("on", (worth,)))
