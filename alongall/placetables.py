@@ -4,7 +4,7 @@ from alongall.errors import BadScope
 from alongall.fulling import Full
 from alongall.fulltables import FullTable, Gathered, is_right
 from alongall.fullwords import full_of
-from alongall.placed import MOST_NAMES, names_of, need_placed
+from alongall.placed import MOST_NAMES, names_of
 from alongall.plain import is_ascending
 from alongall.scopes import scope_of
 from alongall.sight import is_true
@@ -119,8 +119,6 @@ def word_for(formula):
 
 def places_parted(one, other):
     """A pair of a weave and a spot of it at which just one of the two holds; None if there is none."""
-    need_placed(one)
-    need_placed(other)
     if len(scope_of(names_of(one) + names_of(other))) > MOST_NAMES:
         raise BadScope("more than 3 names together")
     return word_with(Full([one, other]), [one, other])

@@ -190,3 +190,40 @@ THREES = (
     ('algebra', 3, ((0, 1, 2), (1, 1, 2), (2, 2, 2)), (0, 2, 2), (0, 2, 2), (0, 0, 2, 2, 2, 2, 2, 2)),
     ('algebra', 3, ((0, 1, 2), (1, 2, 2), (2, 2, 2)), (0, 2, 2), (0, 2, 2), (0, 0, 2, 2, 2, 2, 2, 2)),
 )
+
+
+def mixed_evenly():
+    """1 and 2 words of one kind of places, 3 of both, 4 where both are mixed evenly: met by a mix of two alone."""
+    def joined(a, b):
+        if a == 0 or b == 0:
+            return a + b
+        if 4 in (a, b):
+            return 4
+        return a if a == b else 3
+
+    def mixed(lot):
+        lot = set(lot) - {0}
+        if not lot:
+            return 0
+        if 4 in lot or {1, 2} <= lot:
+            return 4
+        return lot.pop() if len(lot) == 1 else 3
+
+    return table_by(5, joined, lambda a: a, lambda a: a, mixed)
+
+
+def ended():
+    """1 finite, 2 well ordered without a last place, 3 endless with a last one: met by then of 2 and 1 alone; 4 others."""
+    def joined(a, b):
+        if a == 0 or b == 0:
+            return a + b
+        if 4 in (a, b):
+            return 4
+        if b == 2:
+            return 2
+        return 1 if (a, b) == (1, 1) else 3
+
+    return table_by(5, joined, lambda a: (0, 2, 2, 2, 4)[a], lambda a: 4 if a else 0, lambda lot: 4 if any(lot) else 0)
+
+
+MORE_ALGEBRAS = (mixed_evenly(), ended(), flipped_by_hand(ended()))

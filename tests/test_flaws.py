@@ -82,6 +82,14 @@ class Flaw(TestCase):
             self.check(table)
             self.check(flipped_by_hand(table))
 
+    def test_nothing_in_a_mix(self):
+        # Just that mix(P and 0) is mix(P) is broken, for P of one element.
+        table = ("algebra", 3, ((0, 1, 2), (1, 1, 2), (2, 2, 2)), (0, 1, 2), (0, 1, 2), (0, 0, 1, 2, 2, 2, 2, 2))
+        self.assertEqual(rows_broken(table), {0})
+        self.check(table)
+        self.assertIs(is_flaw(table, (mix(NONE, X), mix(X))), True)
+        self.assertIs(is_flaw(table, (mix(NONE, Y), mix(Y))), False)
+
     def test_spoiled_algebras(self):
         rows = set()
         for table in spoiled_tables(510, 250):

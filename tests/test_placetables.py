@@ -41,15 +41,21 @@ def placed_with(seed, most, many, names="xy"):
     return found
 
 
-def closing(formula):
-    """The table with fewest values, by closing slowly; mixes by lots of two and three put together."""
+def closing(formula, ways=("then", "on", "back", "mix")):
+    """The table with fewest values, by closing slowly; or what is only closed in some ways."""
     laters, earliers = looks_in(formula)
     names = tuple(sorted(names_in(formula)))
     table = {nothing(formula)} | {value_of(formula, full) for full in full_letters(names, laters, earliers)}
     while True:
-        more = {then_value(formula, one, other) for one, other in product(table, repeat=2)}
-        more |= {on_value(formula, one) for one in table} | {back_value(formula, one) for one in table}
-        more |= {mix_value(formula, tuple(sorted(lot))) for lot in lots_that_count(table)}
+        more = set()
+        if "then" in ways:
+            more |= {then_value(formula, one, other) for one, other in product(table, repeat=2)}
+        if "on" in ways:
+            more |= {on_value(formula, one) for one in table}
+        if "back" in ways:
+            more |= {back_value(formula, one) for one in table}
+        if "mix" in ways:
+            more |= {mix_value(formula, tuple(sorted(lot))) for lot in lots_that_count(table)}
         more = table | (more - {None})
         if more == table:
             return tuple(sorted(table))
@@ -110,7 +116,7 @@ class Tables(TestCase):
         self.assertEqual(table_of(never), tuple(((sees, fits),) for sees in (0, 1) for fits in (1, 2, 3)))
 
     def test_fewest_values(self):
-        for formula in FORMULAS + tuple(placed_with(610, 1, 12)) + tuple(placed_with(611, 2, 8)):
+        for formula in FORMULAS + tuple(placed_with(610, 1, 12)) + tuple(placed_with(611, 2, 8)) + (GOES_ON, GOES_BACK):
             self.assertEqual(table_of(formula), closing(formula), formula)
 
     def test_values_of_words(self):
@@ -145,6 +151,11 @@ class Tables(TestCase):
                 self.assertEqual(caught.exception.most, 2)
 
 
+NO = ("both", M, NOT_M)
+# There is a next place, or one right ahead, here and at each place behind, or ahead.
+NEXT, PAST = ("until", NO, ALWAYS), ("since", NO, ALWAYS)
+GOES_ON = ("both", NEXT, ("not", ("until", ALWAYS, ("not", NEXT))))
+GOES_BACK = ("both", PAST, ("not", ("since", ALWAYS, ("not", PAST))))
 NEVER = (
     ("until", M, ("both", M, NOT_M)), ("both", M, NOT_M), ("both", F, ("not", F)), ("until", ("both", N, ("not", N)), ("both", F, ("not", F))),
     ("both", ("until", ALWAYS, ("both", M, NOT_M)), ALWAYS),
@@ -189,6 +200,18 @@ class BarTables(TestCase):
                 if one not in table:
                     alone = tuple(sorted({*table, one}))
                     self.assertEqual(is_bar_table(formula, alone), alone == wider and bars_by_hand(formula, wider))
+
+    def test_tables_closed_in_some_ways(self):
+        left_out = {"then": 0, "on": 0, "back": 0, "mix": 0}
+        for formula in FORMULAS[:9] + (FORMULAS[12], GOES_ON, GOES_BACK, ("until", NOT_M, NEXT)):
+            formula = ("both", formula, NO)
+            whole = closing(formula)
+            self.assertIs(is_bar_table(formula, whole), True)
+            for way in left_out:
+                part = closing(formula, [other for other in left_out if other != way])
+                self.assertIs(is_bar_table(formula, part), part == whole, (formula, way))
+                left_out[way] += part != whole
+        self.assertTrue(all(left_out.values()), left_out)
 
     def test_larger_tables_that_bar(self):
         # All values at which nothing is seen wrongly: more than those that come of letters.
@@ -261,6 +284,8 @@ class WordFor(TestCase):
         ):
             told = self.check(formula)
             self.assertEqual(told is None, formula[2] == ("both", M, NOT_M))
+        for formula in (GOES_ON, GOES_BACK, ("both", GOES_ON, M), ("both", GOES_BACK, NOT_M)):
+            self.assertIsNotNone(self.check(formula))
 
 
 class Parted(TestCase):
